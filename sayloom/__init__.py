@@ -1,0 +1,1 @@
+"""Sayloom: talks between hands, and ends that do just the talk."""

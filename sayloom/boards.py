@@ -1,0 +1,172 @@
+"""Names, boards, and what is come to on them."""
+
+from sayloom.errors import NoBoard, NoHand, NoPlace
+
+FAULT = "!"
+MOST_PLACES = 40
+MOST_LETTERS = 8
+FEWEST_HANDS = 2
+MOST_HANDS = 6
+MOST_BRANCHES = 8
+
+
+def is_name(thing):
+    """Whether thing is a text of one to eight small letters."""
+    if not isinstance(thing, str) or not 1 <= len(thing) <= MOST_LETTERS:
+        return False
+    return all(["a" <= sign <= "z" for sign in thing])
+
+
+def is_number(thing):
+    """Whether thing is a whole number, as True and False are none."""
+    return isinstance(thing, int) and not isinstance(thing, bool)
+
+
+def is_number_below(thing, bound):
+    """Whether thing is a whole number from 0 on and below bound."""
+    return is_number(thing) and 0 <= thing < bound
+
+
+def is_tuple_of(thing, least, most):
+    """Whether thing is a tuple of least to most things."""
+    return isinstance(thing, tuple) and least <= len(thing) <= most
+
+
+def is_rising(things):
+    """Whether things, which can be compared, rise, nothing twice."""
+    return all([low < high for low, high in zip(things, things[1:])])
+
+
+def is_board(thing):
+    """Whether thing is a board."""
+    if not is_tuple_of(thing, 3, 3):
+        return False
+    hands, weak, places = thing
+    return _are_hands(hands) and _are_weak(weak, hands) and _are_places(places, hands, weak)
+
+
+def _are_hands(thing):
+    if not is_tuple_of(thing, FEWEST_HANDS, MOST_HANDS):
+        return False
+    return all([is_name(name) for name in thing]) and len(set(thing)) == len(thing)
+
+
+def _are_weak(thing, hands):
+    if not is_tuple_of(thing, 0, len(hands)):
+        return False
+    return all([name in hands for name in thing]) and is_rising(thing)
+
+
+def _are_places(thing, hands, weak):
+    if not is_tuple_of(thing, 1, MOST_PLACES):
+        return False
+    many = len(thing)
+    for place in thing:
+        if place is not None and not _is_saying(place, hands, weak, many):
+            return False
+    if len(places_from(thing, [0])) != many:
+        return False
+    return all([_stays_fallen(thing, hand) for hand in weak])
+
+
+def _is_saying(thing, hands, weak, many):
+    if not is_tuple_of(thing, 2, 2):
+        return False
+    sayer, branches = thing
+    if sayer not in hands or not is_tuple_of(branches, 1, MOST_BRANCHES):
+        return False
+    if not all([_is_branch(branch, sayer, hands, many) for branch in branches]):
+        return False
+    # Rising by hearer and word alone tells both: branches rise, and no two have the same of these.
+    if not is_rising([branch[:2] for branch in branches]):
+        return False
+    faults = [branch[1] for branch in branches].count(FAULT)
+    return faults == int(sayer in weak) and faults < len(branches)
+
+
+def _is_branch(thing, sayer, hands, many):
+    if not is_tuple_of(thing, 3, 3):
+        return False
+    hearer, word, place = thing
+    if hearer not in hands or hearer == sayer:
+        return False
+    return (is_name(word) or word == FAULT) and is_number_below(place, many)
+
+
+def _stays_fallen(places, hand):
+    """Whether hand neither says nor hears where its faults lead to, and behind that."""
+    falls = []
+    for place in places:
+        if place is not None and place[0] == hand:
+            falls.extend([then for _, word, then in place[1] if word == FAULT])
+    return not any([takes_part(places[at], hand) for at in places_from(places, falls)])
+
+
+def takes_part(place, hand):
+    """Whether hand says or hears at a place."""
+    if place is None:
+        return False
+    sayer, branches = place
+    return sayer == hand or any([branch[0] == hand for branch in branches])
+
+
+def branches_of(place, without, faults):
+    """The branches of a place that without neither says nor hears, with or without those with a fault."""
+    if place is None or place[0] == without:
+        return []
+    return [branch for branch in place[1] if branch[0] != without and (faults or branch[1] != FAULT)]
+
+
+def places_from(places, starts, without=None, faults=True):
+    """The rising list of the numbers of all places that are come to from starts, these too."""
+    seen = set(starts)
+    left = list(starts)
+    while left:
+        at = left.pop()
+        for _, _, then in branches_of(places[at], without, faults):
+            if then not in seen:
+                seen.add(then)
+                left.append(then)
+    return sorted(seen)
+
+
+def check_board(board):
+    """Refuses what is no board."""
+    if not is_board(board):
+        raise NoBoard("no board")
+
+
+def check_hand(board, hand):
+    """Refuses what is no hand of a board."""
+    if hand not in board[0]:
+        raise NoHand(hand)
+
+
+def check_reach(board, place, without):
+    """Refuses what reach refuses, in its order."""
+    check_board(board)
+    if not is_number_below(place, len(board[2])):
+        raise NoPlace(place)
+    if without is not None:
+        check_hand(board, without)
+
+
+def hands_of(board):
+    """The hands of a board, in its order."""
+    check_board(board)
+    return board[0]
+
+
+def weak_of(board):
+    """The hands of a board that may fall, rising."""
+    check_board(board)
+    return board[1]
+
+
+def reach(board, place, *, without=None, faults=True):
+    """The rising row of all places that are come to from a place, itself too.
+
+    Along no branch that the hand without says or hears, along none with a fault where faults is False.
+    """
+    check_reach(board, place, without)
+    return tuple(places_from(board[2], [place], without, faults))
