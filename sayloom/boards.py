@@ -42,7 +42,7 @@ def is_board(thing):
     if not is_tuple_of(thing, 3, 3):
         return False
     hands, weak, places = thing
-    return _are_hands(hands) and _are_weak(weak, hands) and _are_places(places, hands, weak)
+    return _are_hands(hands) and are_weak(weak, hands) and _are_places(places, hands, weak)
 
 
 def _are_hands(thing):
@@ -51,7 +51,8 @@ def _are_hands(thing):
     return all([is_name(name) for name in thing]) and len(set(thing)) == len(thing)
 
 
-def _are_weak(thing, hands):
+def are_weak(thing, hands):
+    """Whether thing is a rising tuple of some of the hands."""
     if not is_tuple_of(thing, 0, len(hands)):
         return False
     return all([name in hands for name in thing]) and is_rising(thing)
@@ -98,8 +99,15 @@ def _stays_fallen(places, hand):
     falls = []
     for place in places:
         if place is not None and place[0] == hand:
-            falls.extend([then for _, word, then in place[1] if word == FAULT])
+            falls.extend(falls_of(place))
     return not any([takes_part(places[at], hand) for at in places_from(places, falls)])
+
+
+def falls_of(place):
+    """The list of the numbers of the places to which faults of a place lead."""
+    if place is None:
+        return []
+    return [then for _, word, then in place[1] if word == FAULT]
 
 
 def takes_part(place, hand):

@@ -33,6 +33,13 @@ def place_by(place, saying):
     return None
 
 
+def sayings_at(place):
+    """The list of pairs (saying, place that comes then) of the branches of a place."""
+    if place is None:
+        return []
+    return [((place[0], hearer, word), then) for hearer, word, then in place[1]]
+
+
 def check_row(board, row):
     """The number of the place of a row; refuses what is no board, then what is no row of it."""
     check_board(board)

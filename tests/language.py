@@ -24,6 +24,10 @@ METHODS = set(
     "casefold center expandtabs removeprefix removesuffix rindex isascii isdecimal isnumeric istitle isidentifier "
     "isprintable translate format sort add discard popleft appendleft extendleft rotate".split()
 )
+ATTRIBUTES_OUT = set(
+    "items keys values pop update append clear extend insert remove reverse setdefault sort args encode decode hex "
+    "fromhex format".split()
+)
 BARRED = set("mro elements open input law version_info with_traceback add_note register".split())
 CATCHABLE = {"KeyError", "ZeroDivisionError", "StopIteration", "ValueError", "LookupError", "IndexError"}
 NODES_OUT = {
@@ -77,7 +81,33 @@ def _of_module(tree):
             names.append(node.targets[0].id)
         elif not (at == 0 and isinstance(node, ast.Expr) and isinstance(node.value, ast.Constant)):
             found.append((node.lineno, "L3"))
-    return found + [(0, "L15")] * (len(names) != len(set(names)))
+    return found + [(0, "L15")] * (len(names) != len(set(names))) + _of_shadows(tree) + _of_classes(tree)
+
+
+def _of_shadows(tree):
+    """Parameters and variables that have the name of a class or an import of the file."""
+    taken = {node.name for node in tree.body if isinstance(node, ast.ClassDef)}
+    for node in tree.body:
+        if isinstance(node, ast.ImportFrom):
+            taken.update(alias.name for alias in node.names)
+    found = [(node.lineno, "L15") for node in ast.walk(tree) if isinstance(node, ast.arg) and node.arg in taken]
+    return found + [
+        (node.lineno, "L15") for node in ast.walk(tree)
+        if isinstance(node, ast.Name) and isinstance(node.ctx, ast.Store) and node.id in taken
+    ]
+
+
+def _of_classes(tree):
+    """Names that are a method and an attribute of one class, and attributes called as a builtin's method is."""
+    found = []
+    for node in tree.body:
+        if isinstance(node, ast.ClassDef):
+            methods = {one.name for one in node.body if isinstance(one, ast.FunctionDef)}
+            attributes = [one for one in ast.walk(node) if isinstance(one, ast.Attribute)]
+            stored = [one for one in attributes if isinstance(one.ctx, ast.Store)]
+            found += [(one.lineno, "L18") for one in stored if one.attr in methods]
+            found += [(one.lineno, "L26") for one in stored if one.attr in ATTRIBUTES_OUT]
+    return found
 
 
 def _of_node(node, known):
@@ -93,6 +123,11 @@ def _of_node(node, known):
         yield from _of_constant(node.value)
     if isinstance(node, (ast.Name, ast.arg, ast.Attribute)):
         yield from _of_name(node)
+    if isinstance(node, ast.GeneratorExp):
+        # As a class of the package has __eq__ here, a list is taken by any, all, sorted and the like.
+        yield "L7"
+    if isinstance(node, ast.Starred) and not isinstance(node.value, (ast.Name, ast.Attribute)):
+        yield "L7"
     if isinstance(node, ast.Call) and isinstance(node.func, ast.Attribute):
         if node.func.attr not in known and node.func.attr != "__init__":
             yield "L25"

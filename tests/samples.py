@@ -105,6 +105,24 @@ def anything():
     ]
 
 
+def with_one_otherwise(thing, other):
+    """The things that come where one part, at whatever depth, is the other one."""
+    yield other
+    if isinstance(thing, tuple):
+        for at, part in enumerate(thing):
+            for broken in with_one_otherwise(part, other):
+                yield thing[:at] + (broken,) + thing[at + 1:]
+
+
+def with_one_listed(thing):
+    """The things that come where one tuple, at whatever depth, is a list."""
+    if isinstance(thing, tuple):
+        yield list(thing)
+        for at, part in enumerate(thing):
+            for broken in with_one_listed(part):
+                yield thing[:at] + (broken,) + thing[at + 1:]
+
+
 def same(one, other):
     """Whether both are alike by their kinds, too, as True == 1 is not enough."""
     if isinstance(one, (tuple, list)):

@@ -6,7 +6,7 @@ from sayloom.boards import FAULT, MOST_PLACES, hands_of, is_board, is_name, reac
 from sayloom.errors import NoBoard, NoHand, NoPlace
 from tests.samples import (
     ASKING, BOARDS, BOTH, FALLING, PAIR, Unchanged, anything, chain, closure, crowd, made_up_boards, nested,
-    ring, same, star,
+    ring, same, star, with_one_listed, with_one_otherwise,
 )
 
 HANDS = ("ann", "bob")
@@ -221,24 +221,6 @@ class TestBoards(unittest.TestCase):
         for board in (PAIR, ASKING, FALLING, BOTH):
             for broken in with_one_listed(board):
                 self.assertIs(is_board(broken), False, broken)
-
-
-def with_one_otherwise(thing, other):
-    """The things that come where one part, at whatever depth, is the other one."""
-    yield other
-    if isinstance(thing, tuple):
-        for at, part in enumerate(thing):
-            for broken in with_one_otherwise(part, other):
-                yield thing[:at] + (broken,) + thing[at + 1:]
-
-
-def with_one_listed(thing):
-    """The things that come where one tuple, at whatever depth, is a list."""
-    if isinstance(thing, tuple):
-        yield list(thing)
-        for at, part in enumerate(thing):
-            for broken in with_one_listed(part):
-                yield thing[:at] + (broken,) + thing[at + 1:]
 
 
 class TestHands(unittest.TestCase):

@@ -3,7 +3,7 @@
 import inspect
 import unittest
 
-from sayloom import boards, errors, rows
+from sayloom import boards, covers, ends, errors, halls, keeps, made, making, rows, stuck, texts
 
 FUNCTIONS = {
     boards: {
@@ -21,6 +21,85 @@ FUNCTIONS = {
         "views_of": "(board, row)",
         "row_to": "(board, place, *, without=None, faults=True)",
     },
+    texts: {
+        "read_talk": "(text, *, most=40)",
+        "points": "(text, *, most=40)",
+        "in_order": "(board)",
+        "talk_text": "(board)",
+    },
+    ends: {
+        "is_end": "(thing)",
+        "end_behind": "(end, view, *, start=0)",
+        "events_at": "(end, state)",
+        "is_done": "(end, state)",
+        "least_end": "(end)",
+        "unlike_view": "(end, other)",
+    },
+    keeps: {
+        "keeps": "(end, other)",
+        "shows_keeps": "(end, other, thing)",
+    },
+    made: {
+        "places_behind": "(board, hand, view)",
+        "made_end": "(board, hand)",
+        "sets_of": "(board, hand)",
+        "view_to": "(board, hand, state)",
+    },
+    stuck: {
+        "held_back": "(board, row, hand, *, at=0)",
+        "shows_stuck": "(board, thing)",
+    },
+    making: {
+        "made": "(board)",
+        "is_let": "(board)",
+        "stuck_paper": "(board, hand, *, kinds=('ends', 'fault', 'mixed', 'race', 'says'))",
+        "stuck_kinds": "(board, hand)",
+    },
+    halls: {
+        "are_ends": "(thing)",
+        "hall_behind": "(ends, log, *, room=None, weak=())",
+        "fault_in": "(ends, log, *, room=None, weak=())",
+    },
+    covers: {
+        "is_run": "(board, thing)",
+        "events_of": "(board, run)",
+        "covers": "(board, run, row)",
+        "row_of": "(board, run)",
+        "least_row": "(board, run, *, most=4000)",
+        "run_of": "(board, paper)",
+    },
+}
+HALL = {
+    "__init__": "(self, ends, *, room=None, weak=())",
+    "say": "(self, hand, hearer, word)",
+    "hear": "(self, hand, sayer)",
+    "fall": "(self, hand)",
+    "do": "(self, deed)",
+    "all_of": "(self, deeds)",
+    "back": "(self)",
+    "can_do": "(self)",
+    "state_of": "(self, hand)",
+    "is_done": "(self, hand)",
+    "view_of": "(self, hand)",
+    "road": "(self, sayer, hearer)",
+    "views": "(self)",
+    "fallen": "(self)",
+    "under_way": "(self)",
+    "log": "(self)",
+    "counts": "(self)",
+    "twin": "(self)",
+    "__eq__": "(self, other)",
+    "__len__": "(self)",
+    "__str__": "(self)",
+    "__repr__": "(self)",
+}
+VALUES = {
+    boards: {"FAULT": "!", "MOST_PLACES": 40},
+    texts: {"MOST": 40},
+    ends: {"BEGIN": 0},
+    made: {"MOST_STATES": 100},
+    stuck: {"KINDS": ("ends", "fault", "mixed", "race", "says")},
+    covers: {"MOST_LOOKS": 4000},
 }
 BEARERS = {"NoText": "(at)", "NoHand": "(hand)", "NoPlace": "(place)", "Empty": "(sayer, hearer)",
            "Full": "(sayer, hearer)"}
@@ -34,6 +113,17 @@ class TestInterface(unittest.TestCase):
                     told = getattr(file, name)
                     self.assertEqual(str(inspect.signature(told)), arguments)
                     self.assertEqual(told.__module__, file.__name__)
+
+    def test_a_halls_methods_are_its_own(self):
+        self.assertEqual(halls.Hall.__module__, "sayloom.halls")
+        for name, arguments in HALL.items():
+            with self.subTest(name=name):
+                self.assertEqual(str(inspect.signature(vars(halls.Hall)[name])), arguments)
+
+    def test_values(self):
+        for file, values in VALUES.items():
+            for name, value in values.items():
+                self.assertEqual((name, getattr(file, name)), (name, value))
 
     def test_errors_are_made_of_what_they_bear(self):
         for name, arguments in BEARERS.items():
