@@ -80,9 +80,9 @@ def state_by(state, event):
     return None
 
 
-def events_in(state):
-    """The rising list of the events of a state."""
-    return [step[:3] for step in state]
+def steps_in(state):
+    """The dict from the events of a state, rising, to the states that come by them."""
+    return {step[:3]: step[3] for step in state}
 
 
 def end_behind(end, view, *, start=BEGIN):
@@ -106,7 +106,7 @@ def events_at(end, state):
     """The rising row of the events of a state."""
     check_end(end)
     check_state(end, state)
-    return tuple(events_in(end[1][state]))
+    return tuple(steps_in(end[1][state]))
 
 
 def is_done(end, state):
@@ -162,8 +162,8 @@ def unlike_view(end, other):
     done = 0
     while done < len(pairs):
         pair = pairs[done]
-        one, two = end[1][pair[0]], other[1][pair[1]]
-        unlike = sorted(set(events_in(one)) ^ set(events_in(two)))
+        one, two = steps_in(end[1][pair[0]]), steps_in(other[1][pair[1]])
+        unlike = sorted(set(one) ^ set(two))
         if unlike:
             return trace(came, pair) + (unlike[0],)
         pairs.extend(new_pairs(came, pair, one, two))
@@ -172,14 +172,13 @@ def unlike_view(end, other):
 
 
 def new_pairs(came, pair, one, two):
-    """The pairs that come first by an event of one, rising by these; came gets them, too.
+    """The pairs that come first by an event of the steps one, rising by these; came gets them, too.
 
-    All events of the state one are events of the state two.
+    All events of the steps one are events of the steps two.
     """
     found = []
-    for kind, other, word, then in one:
-        event = (kind, other, word)
-        come = (then, state_by(two, event))
+    for event, then in one.items():
+        come = (then, two[event])
         if come not in came:
             came[come] = (pair, event)
             found.append(come)

@@ -1,7 +1,7 @@
 """Ends that keep others: what they hear and say instead of them, and papers of it."""
 
 from sayloom.boards import is_number_below, is_rising, is_tuple_of
-from sayloom.ends import BEGIN, check_same_hand, events_in, is_view, new_pairs, state_after, state_by
+from sayloom.ends import BEGIN, check_same_hand, is_view, new_pairs, state_after, steps_in
 from sayloom.traces import trace
 
 KEEPS = "keeps"
@@ -17,7 +17,7 @@ def keeps(end, other):
     done = 0
     while done < len(pairs):
         pair = pairs[done]
-        one, two = end[1][pair[0]], other[1][pair[1]]
+        one, two = steps_in(end[1][pair[0]]), steps_in(other[1][pair[1]])
         breaks = breaks_in(one, two)
         if breaks:
             return BREAKS, trace(came, pair), breaks[0]
@@ -27,19 +27,17 @@ def keeps(end, other):
 
 
 def breaks_in(one, two):
-    """All by which the state one breaks the state two: events, at last None where two says and one doesn't."""
-    mine = events_in(one)
-    others = events_in(two)
-    found = [event for event in mine if event not in others]
-    found.extend([event for event in others if event[0] == "hear" and event not in mine])
-    if says_some(others) and not says_some(mine):
+    """All by which the steps one break the steps two: events, at last None where two say and one don't."""
+    found = [event for event in one if event not in two]
+    found.extend([event for event in two if event[0] == "hear" and event not in one])
+    if says_some(two) and not says_some(one):
         found.append(None)
     return found
 
 
-def says_some(events):
-    """Whether one of the events is a say."""
-    return "say" in [event[0] for event in events]
+def says_some(steps):
+    """Whether some event of the steps is a say."""
+    return "say" in [event[0] for event in steps]
 
 
 def shows_keeps(end, other, thing):
@@ -59,12 +57,10 @@ def _are_keeping(states, others, thing):
         return False
     pairs = set(thing)
     for mine, its in thing:
-        if breaks_in(states[mine], others[its]):
-            return False
+        one, two = steps_in(states[mine]), steps_in(others[its])
         # Where nothing breaks, all events of the one are events of the other.
-        for kind, other, word, then in states[mine]:
-            if (then, state_by(others[its], (kind, other, word))) not in pairs:
-                return False
+        if breaks_in(one, two) or not all([(one[event], two[event]) in pairs for event in one]):
+            return False
     return True
 
 
@@ -81,4 +77,4 @@ def _is_break(states, others, view, event):
     two = state_after(others, view, BEGIN)
     if one is None or two is None:
         return False
-    return event in breaks_in(states[one], others[two])
+    return event in breaks_in(steps_in(states[one]), steps_in(others[two]))
