@@ -12,9 +12,10 @@ MOST_BRANCHES = 8
 
 def is_name(thing):
     """Whether thing is a text of one to eight small letters."""
-    if not isinstance(thing, str) or not 1 <= len(thing) <= MOST_LETTERS:
+    if not isinstance(thing, str) or len(thing) > MOST_LETTERS:
         return False
-    return all(["a" <= sign <= "z" for sign in thing])
+    # Of the signs of other alphabets, and of the great ones, these three let none by.
+    return thing.isascii() and thing.isalpha() and thing.islower()
 
 
 def is_number(thing):
@@ -24,7 +25,7 @@ def is_number(thing):
 
 def is_number_below(thing, bound):
     """Whether thing is a whole number from 0 on and below bound."""
-    return is_number(thing) and 0 <= thing < bound
+    return isinstance(thing, int) and thing is not True and thing is not False and 0 <= thing < bound
 
 
 def is_tuple_of(thing, least, most):
@@ -34,12 +35,23 @@ def is_tuple_of(thing, least, most):
 
 def is_rising(things):
     """Whether things, which can be compared, rise, nothing twice."""
-    return all([low < high for low, high in zip(things, things[1:])])
+    for at in range(1, len(things)):
+        if not things[at - 1] < things[at]:
+            return False
+    return True
+
+
+def is_new_name(thing, known):
+    """Whether thing, a text, is a name; known, the dict of those looked at, gets it then."""
+    if not is_name(thing):
+        return False
+    known[thing] = True
+    return True
 
 
 def is_board(thing):
     """Whether thing is a board."""
-    if not is_tuple_of(thing, 3, 3):
+    if not isinstance(thing, tuple) or len(thing) != 3:
         return False
     hands, weak, places = thing
     return _are_hands(hands) and are_weak(weak, hands) and _are_places(places, hands, weak)
@@ -61,37 +73,42 @@ def are_weak(thing, hands):
 def _are_places(thing, hands, weak):
     if not is_tuple_of(thing, 1, MOST_PLACES):
         return False
-    many = len(thing)
+    # A word that stands at many places is looked at once.
+    known = {FAULT: True}
     for place in thing:
-        if place is not None and not _is_saying(place, hands, weak, many):
+        if place is not None and not _is_saying(place, hands, weak, len(thing), known):
             return False
-    if len(places_from(thing, [0])) != many:
+    if len(places_from(thing, [0])) != len(thing):
         return False
     return all([_stays_fallen(thing, hand) for hand in weak])
 
 
-def _is_saying(thing, hands, weak, many):
-    if not is_tuple_of(thing, 2, 2):
+def _is_saying(thing, hands, weak, many, known):
+    if not isinstance(thing, tuple) or len(thing) != 2:
         return False
     sayer, branches = thing
-    if sayer not in hands or not is_tuple_of(branches, 1, MOST_BRANCHES):
+    if sayer not in hands or not isinstance(branches, tuple) or not 1 <= len(branches) <= MOST_BRANCHES:
         return False
-    if not all([_is_branch(branch, sayer, hands, many) for branch in branches]):
-        return False
-    # Rising by hearer and word alone tells both: branches rise, and no two have the same of these.
-    if not is_rising([branch[:2] for branch in branches]):
-        return False
-    faults = [branch[1] for branch in branches].count(FAULT)
+    last = ()
+    faults = 0
+    for branch in branches:
+        if not isinstance(branch, tuple) or len(branch) != 3:
+            return False
+        hearer, word, then = branch
+        if hearer not in hands or hearer == sayer or not isinstance(word, str):
+            return False
+        if word not in known and not is_new_name(word, known):
+            return False
+        if not isinstance(then, int) or then is True or then is False or not 0 <= then < many:
+            return False
+        # Rising by hearer and word alone tells both: branches rise, and no two have the same of these.
+        told = (hearer, word)
+        if not last < told:
+            return False
+        last = told
+        if word == FAULT:
+            faults += 1
     return faults == int(sayer in weak) and faults < len(branches)
-
-
-def _is_branch(thing, sayer, hands, many):
-    if not is_tuple_of(thing, 3, 3):
-        return False
-    hearer, word, place = thing
-    if hearer not in hands or hearer == sayer:
-        return False
-    return (is_name(word) or word == FAULT) and is_number_below(place, many)
 
 
 def _stays_fallen(places, hand):
@@ -130,9 +147,11 @@ def places_from(places, starts, without=None, faults=True):
     seen = set(starts)
     left = list(starts)
     while left:
-        at = left.pop()
-        for _, _, then in branches_of(places[at], without, faults):
-            if then not in seen:
+        place = places[left.pop()]
+        if place is None or place[0] == without:
+            continue
+        for hearer, word, then in place[1]:
+            if then not in seen and hearer != without and (faults or word != FAULT):
                 seen.add(then)
                 left.append(then)
     return sorted(seen)

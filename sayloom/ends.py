@@ -1,6 +1,6 @@
 """Ends of hands: what they do, least ends, and ends that do alike."""
 
-from sayloom.boards import FAULT, is_name, is_number_below, is_rising, is_tuple_of
+from sayloom.boards import FAULT, is_name, is_number_below, is_tuple_of
 from sayloom.errors import NoEnd, NoHand, NoPlace, NoView
 from sayloom.traces import trace
 
@@ -10,35 +10,57 @@ MOST_OF_END = 100
 
 def is_end(thing):
     """Whether thing is an end of a hand."""
-    if not is_tuple_of(thing, 2, 2):
+    return is_end_among(thing, None)
+
+
+def is_end_among(thing, hands):
+    """Whether thing is an end of a hand that names no others than some hands; None stands for whatever names."""
+    if not isinstance(thing, tuple) or len(thing) != 2:
         return False
     hand, states = thing
     if not is_name(hand) or not is_tuple_of(states, 1, MOST_OF_END):
         return False
-    return all([_is_state(state, hand, len(states)) for state in states])
+    many = len(states)
+    # An event that stands in many states is looked at once.
+    known = {}
+    for state in states:
+        if not isinstance(state, tuple):
+            return False
+        last = ()
+        for step in state:
+            if not isinstance(step, tuple) or len(step) != 4:
+                return False
+            kind, other, word, then = step
+            if not isinstance(kind, str) or not isinstance(other, str) or not isinstance(word, str):
+                return False
+            event = (kind, other, word)
+            if event not in known and not _is_new_event(event, hand, hands, known):
+                return False
+            if not isinstance(then, int) or then is True or then is False or not 0 <= then < many:
+                return False
+            # Rising by events alone tells both: steps rise, and no two have the same event.
+            if not last < event:
+                return False
+            last = event
+    return True
 
 
-def _is_state(thing, hand, many):
-    if not isinstance(thing, tuple) or not all([_is_step(step, hand, many) for step in thing]):
+def _is_new_event(event, hand, hands, known):
+    """Whether texts are an event of a hand that names one of some hands; known gets it then."""
+    if not is_event(event) or event[1] == hand or hands is not None and event[1] not in hands:
         return False
-    # Rising by events alone tells both: steps rise, and no two have the same event.
-    return is_rising([step[:3] for step in thing])
-
-
-def _is_step(thing, hand, many):
-    if not is_tuple_of(thing, 4, 4) or not is_event(thing[:3]):
-        return False
-    return thing[1] != hand and is_number_below(thing[3], many)
+    known[event] = True
+    return True
 
 
 def is_event(thing):
     """Whether thing is an event of some hand, of whatever names."""
-    if not is_tuple_of(thing, 3, 3):
+    if not isinstance(thing, tuple) or len(thing) != 3:
         return False
     kind, other, word = thing
-    if kind == "hear" and word == FAULT:
-        return is_name(other)
-    return kind in ("hear", "say") and is_name(other) and is_name(word)
+    if kind == "say":
+        return is_name(other) and is_name(word)
+    return kind == "hear" and is_name(other) and (is_name(word) or word == FAULT)
 
 
 def is_view(thing):
@@ -80,33 +102,40 @@ def state_by(state, event):
     return None
 
 
-def steps_in(state):
-    """The dict from the events of a state, rising, to the states that come by them."""
-    return {step[:3]: step[3] for step in state}
+def events_in(state):
+    """The list of the events of a state, rising."""
+    return [step[:3] for step in state]
 
 
 def end_behind(end, view, *, start=BEGIN):
     """The state behind a row of events from a state on, or None where the end doesn't do it."""
     check_end(end)
-    check_view(view)
-    check_state(end, start)
-    return state_after(end[1], view, start)
+    if not isinstance(view, tuple) or not is_number_below(start, len(end[1])):
+        check_view(view)
+        raise NoPlace(start)
+    state, done = walk_along(end[1], view, start)
+    # What an end does are events: just the others need be looked at.
+    check_view(view[done:])
+    return state
 
 
-def state_after(states, view, at):
-    """The number of the state behind a row of events from a state on, or None where these don't lead."""
-    for event in view:
-        at = state_by(states[at], event)
-        if at is None:
-            return None
-    return at
+def walk_along(states, thing, at):
+    """The pair of the state behind a row of anything from a state on, or None, and of how many of it are done."""
+    for done, event in enumerate(thing):
+        for kind, other, word, then in states[at]:
+            if (kind, other, word) == event:
+                at = then
+                break
+        else:
+            return None, done
+    return at, len(thing)
 
 
 def events_at(end, state):
     """The rising row of the events of a state."""
     check_end(end)
     check_state(end, state)
-    return tuple(steps_in(end[1][state]))
+    return tuple(events_in(end[1][state]))
 
 
 def is_done(end, state):
@@ -162,24 +191,26 @@ def unlike_view(end, other):
     done = 0
     while done < len(pairs):
         pair = pairs[done]
-        one, two = steps_in(end[1][pair[0]]), steps_in(other[1][pair[1]])
-        unlike = sorted(set(one) ^ set(two))
-        if unlike:
+        mine, its = end[1][pair[0]], other[1][pair[1]]
+        comes = pairs_by(mine, its)
+        if comes is None:
+            unlike = sorted(set(events_in(mine)) ^ set(events_in(its)))
             return trace(came, pair) + (unlike[0],)
-        pairs.extend(new_pairs(came, pair, one, two))
+        for step, come in zip(mine, comes):
+            if come not in came:
+                came[come] = (pair, step[:3])
+                pairs.append(come)
         done += 1
     return None
 
 
-def new_pairs(came, pair, one, two):
-    """The pairs that come first by an event of the steps one, rising by these; came gets them, too.
-
-    All events of the steps one are events of the steps two.
-    """
+def pairs_by(state, other):
+    """The list of the pairs that come by the events of two states, rising, or None where these aren't the same."""
+    if len(state) != len(other):
+        return None
     found = []
-    for event, then in one.items():
-        come = (then, two[event])
-        if come not in came:
-            came[come] = (pair, event)
-            found.append(come)
+    for (kind, hand, word, then), (other_kind, other_hand, other_word, other_then) in zip(state, other):
+        if word != other_word or hand != other_hand or kind != other_kind:
+            return None
+        found.append((then, other_then))
     return found

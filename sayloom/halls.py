@@ -1,7 +1,7 @@
 """Halls: ends that say, hear and fall over roads, and the logs of what they did."""
 
 from sayloom.boards import FAULT, FEWEST_HANDS, MOST_HANDS, are_weak, is_number, is_tuple_of
-from sayloom.ends import BEGIN, is_end, state_by
+from sayloom.ends import BEGIN, is_end_among, state_by
 from sayloom.errors import Empty, Full, LoomError, NoDeed, NoEnds, NoHand, NoRoom, NoRow
 
 MOST_ROOM = 9
@@ -12,12 +12,12 @@ ROW_FORMS = (("say", 4), ("hear", 4), ("fall", 2))
 
 def are_ends(thing):
     """Whether thing is the ends of a hall."""
-    if not is_tuple_of(thing, FEWEST_HANDS, MOST_HANDS) or not all([is_end(end) for end in thing]):
+    if not is_tuple_of(thing, FEWEST_HANDS, MOST_HANDS):
         return False
-    hands = [hand for hand, _ in thing]
-    if len(set(hands)) < len(hands):
+    hands = [end[0] for end in thing if isinstance(end, tuple) and len(end) == 2]
+    if not all([is_end_among(end, hands) for end in thing]):
         return False
-    return all([step[1] in hands for _, states in thing for state in states for step in state])
+    return len(set(hands)) == len(hands)
 
 
 def check_hall(ends, room, weak):

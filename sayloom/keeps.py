@@ -1,7 +1,7 @@
 """Ends that keep others: what they hear and say instead of them, and papers of it."""
 
 from sayloom.boards import is_number_below, is_rising, is_tuple_of
-from sayloom.ends import BEGIN, check_same_hand, is_view, new_pairs, state_after, steps_in
+from sayloom.ends import BEGIN, check_same_hand, events_in, pairs_by, walk_along
 from sayloom.traces import trace
 
 KEEPS = "keeps"
@@ -17,27 +17,42 @@ def keeps(end, other):
     done = 0
     while done < len(pairs):
         pair = pairs[done]
-        one, two = steps_in(end[1][pair[0]]), steps_in(other[1][pair[1]])
-        breaks = breaks_in(one, two)
-        if breaks:
-            return BREAKS, trace(came, pair), breaks[0]
-        pairs.extend(new_pairs(came, pair, one, two))
+        mine, its = end[1][pair[0]], other[1][pair[1]]
+        comes = pairs_by(mine, its)
+        if comes is None:
+            comes = kept_pairs(mine, its)
+        if comes is None:
+            return BREAKS, trace(came, pair), breaks_in(mine, its)[0]
+        for step, come in zip(mine, comes):
+            if come not in came:
+                came[come] = (pair, step[:3])
+                pairs.append(come)
         done += 1
     return KEEPS, tuple(sorted(pairs))
 
 
-def breaks_in(one, two):
-    """All by which the steps one break the steps two: events, at last None where two say and one don't."""
-    found = [event for event in one if event not in two]
-    found.extend([event for event in two if event[0] == "hear" and event not in one])
-    if says_some(two) and not says_some(one):
+def kept_pairs(mine, its):
+    """The list of the pairs that come by the events of a state, or None where it breaks the other one."""
+    if breaks_in(mine, its):
+        return None
+    steps = {step[:3]: step[3] for step in its}
+    return [(step[3], steps[step[:3]]) for step in mine]
+
+
+def breaks_in(mine, its):
+    """All by which a state breaks the other one: events, at last None where that says and it doesn't."""
+    events, others = events_in(mine), events_in(its)
+    has, other_has = set(events), set(others)
+    found = [event for event in events if event not in other_has]
+    found.extend([event for event in others if event[0] == "hear" and event not in has])
+    if says_some(others) and not says_some(events):
         found.append(None)
     return found
 
 
-def says_some(steps):
-    """Whether some event of the steps is a say."""
-    return "say" in [event[0] for event in steps]
+def says_some(events):
+    """Whether one of the events is a say."""
+    return "say" in [event[0] for event in events]
 
 
 def shows_keeps(end, other, thing):
@@ -51,30 +66,31 @@ def shows_keeps(end, other, thing):
 
 
 def _are_keeping(states, others, thing):
-    if not isinstance(thing, tuple) or not all([_is_pair(pair, states, others) for pair in thing]):
+    if not isinstance(thing, tuple) or not all([_is_pair(pair, len(states), len(others)) for pair in thing]):
         return False
     if not thing or thing[0] != (BEGIN, BEGIN) or not is_rising(thing):
         return False
     pairs = set(thing)
     for mine, its in thing:
-        one, two = steps_in(states[mine]), steps_in(others[its])
-        # Where nothing breaks, all events of the one are events of the other.
-        if breaks_in(one, two) or not all([(one[event], two[event]) in pairs for event in one]):
+        comes = pairs_by(states[mine], others[its])
+        if comes is None:
+            comes = kept_pairs(states[mine], others[its])
+        if comes is None or not all([pair in pairs for pair in comes]):
             return False
     return True
 
 
-def _is_pair(thing, states, others):
-    if not is_tuple_of(thing, 2, 2):
+def _is_pair(thing, many, others):
+    if not isinstance(thing, tuple) or len(thing) != 2:
         return False
-    return is_number_below(thing[0], len(states)) and is_number_below(thing[1], len(others))
+    return is_number_below(thing[0], many) and is_number_below(thing[1], others)
 
 
 def _is_break(states, others, view, event):
-    if not is_view(view):
+    if not isinstance(view, tuple):
         return False
-    one = state_after(states, view, BEGIN)
-    two = state_after(others, view, BEGIN)
+    one, _ = walk_along(states, view, BEGIN)
+    two, _ = walk_along(others, view, BEGIN)
     if one is None or two is None:
         return False
-    return event in breaks_in(steps_in(states[one]), steps_in(others[two]))
+    return event in breaks_in(states[one], others[two])

@@ -1,6 +1,6 @@
 """Made ends: what each hand knows behind its view, as a machine of its own."""
 
-from sayloom.boards import FAULT, check_board, check_hand, is_number_below, places_from
+from sayloom.boards import FAULT, check_board, check_hand, is_number_below
 from sayloom.ends import check_view
 from sayloom.errors import NoPlace, TooWide
 from sayloom.traces import trace
@@ -13,62 +13,111 @@ def places_behind(board, hand, view):
     check_board(board)
     check_hand(board, hand)
     check_view(view)
-    places = board[2]
-    here = silent_from(places, [0], hand)
+    paths = Paths(board[2], hand)
+    here = paths.behind[0]
     for event in view:
-        here = silent_from(places, events_from(places, here, hand).get(event, []), hand)
-    return here
+        here = dict(paths.events_from(here)).get(event, 0)
+    return row_of_set(here)
 
 
-def silent_from(places, starts, hand):
-    """The rising row of the places that are come to from starts without an event or a fall of a hand."""
-    return tuple(places_from(places, starts, hand))
+def row_of_set(bits):
+    """The rising row of the places of a set."""
+    row = []
+    while bits:
+        low = bits & -bits
+        row.append(low.bit_length() - 1)
+        bits ^= low
+    return tuple(row)
 
 
-def events_from(places, here, hand):
-    """The dict from a hand's events at some places to the lists of places that come then."""
-    found = {}
-    for at in here:
-        sayer, branches = places[at] if places[at] is not None else (None, ())
-        for hearer, word, then in branches:
-            if hearer == hand:
-                found.setdefault(("hear", sayer, word), []).append(then)
-            elif sayer == hand and word != FAULT:
-                found.setdefault(("say", hearer, word), []).append(then)
-    return found
+class Paths:
+    """What a hand of a board can see, and what it can't. A set of places is a number, with a bit for each of them.
+
+    events has for each place the pairs (event of the hand there, place that comes then), rising; telling is the set
+    of the places that have any. behind has for each place the set of those that are come to from it without an event
+    or a fall of the hand.
+    """
+
+    def __init__(self, places, hand):
+        self.events = []
+        self.telling = 0
+        unseen = []
+        for at, place in enumerate(places):
+            events, silent = [], []
+            sayer, branches = place if place is not None else (None, ())
+            if sayer == hand:
+                events = [(("say", hearer, word), then) for hearer, word, then in branches if word != FAULT]
+            else:
+                for hearer, word, then in branches:
+                    if hearer == hand:
+                        events.append((("hear", sayer, word), then))
+                    else:
+                        silent.append(then)
+            self.events.append(events)
+            unseen.append(silent)
+            if events:
+                self.telling |= 1 << at
+        self.behind = closures(unseen)
+
+    def events_from(self, here):
+        """The list of pairs (event of the hand at places of a set, set to which it leads), rising."""
+        left = here & self.telling
+        low = left & -left
+        if left == low:
+            events = self.events[low.bit_length() - 1] if left else []
+            return [(event, self.behind[then]) for event, then in events]
+        found = {}
+        while left:
+            low = left & -left
+            left ^= low
+            for event, then in self.events[low.bit_length() - 1]:
+                found[event] = found.get(event, 0) | self.behind[then]
+        return [(event, found[event]) for event in sorted(found)]
+
+
+def closures(steps):
+    """For each place the set of those that are come to from it by steps, itself too."""
+    behind = [1 << at for at in range(len(steps))]
+    # Most steps lead to later places: from the last one on few rounds are enough.
+    going = [at for at in range(len(steps)) if steps[at]][::-1]
+    grown = True
+    while grown:
+        grown = False
+        for at in going:
+            bits = behind[at]
+            for then in steps[at]:
+                bits |= behind[then]
+            if bits != behind[at]:
+                behind[at] = bits
+                grown = True
+    return behind
 
 
 class Growth:
     """The states of a made end as they first come: their sets, their steps, and where each came from."""
 
     def __init__(self, places, hand):
-        start = silent_from(places, [0], hand)
-        self.sets = [start]
-        self.numbers = {start: 0}
+        self.paths = Paths(places, hand)
+        self.sets = [self.paths.behind[0]]
         self.came = {0: None}
         self.states = []
+        numbers = {self.sets[0]: 0}
         while len(self.states) < len(self.sets):
-            self.grow(places, hand)
+            at = len(self.states)
+            steps = []
+            for event, bits in self.paths.events_from(self.sets[at]):
+                if bits not in numbers:
+                    numbers[bits] = len(numbers)
+                    self.add(bits, at, event)
+                steps.append(event + (numbers[bits],))
+            self.states.append(tuple(steps))
 
-    def grow(self, places, hand):
-        """Adds the steps of the next state."""
-        at = len(self.states)
-        found = events_from(places, self.sets[at], hand)
-        steps = []
-        for event in sorted(found):
-            then = silent_from(places, found[event], hand)
-            steps.append(event + (self.number_of(then, at, event),))
-        self.states.append(tuple(steps))
-
-    def number_of(self, then, at, event):
-        """The number of a set to which an event leads from a state."""
-        if then not in self.numbers:
-            if len(self.sets) == MOST_STATES:
-                raise TooWide(f"a made end of more than {MOST_STATES} states")
-            self.numbers[then] = len(self.sets)
-            self.came[len(self.sets)] = (at, event)
-            self.sets.append(then)
-        return self.numbers[then]
+    def add(self, bits, at, event):
+        """Adds the set to which an event leads from a state."""
+        if len(self.sets) == MOST_STATES:
+            raise TooWide(f"a made end of more than {MOST_STATES} states")
+        self.came[len(self.sets)] = (at, event)
+        self.sets.append(bits)
 
 
 def growth_of(board, hand):
@@ -85,7 +134,7 @@ def made_end(board, hand):
 
 def sets_of(board, hand):
     """The row of the sets of places of a made end's states."""
-    return tuple(growth_of(board, hand).sets)
+    return tuple([row_of_set(bits) for bits in growth_of(board, hand).sets])
 
 
 def view_to(board, hand, state):

@@ -1,114 +1,110 @@
 """Whether a board is let or stuck: its made ends, or a paper."""
 
-from sayloom.boards import FAULT, check_board, places_from
-from sayloom.made import growth_of
-from sayloom.rows import sayings_at
+from sayloom.boards import FAULT, check_board
+from sayloom.made import Growth, growth_of
 from sayloom.sights import Sight
-from sayloom.stuck import KINDS, has_word_of, hold_on
-from sayloom.traces import trace
+from sayloom.signs import Signs, races_of, way_to_race
+from sayloom.stuck import KINDS
 
 MADE = "made"
 STUCK = "stuck"
-# Stands ahead of all looks of a search: no place has this number.
-AHEAD = (-1, (), ())
 
 
 def made(board):
     """The made ends of all hands, or a paper by which the board is stuck."""
-    check_board(board)
-    ends = tuple([(hand, tuple(growth_of(board, hand).states)) for hand in board[0]])
-    for hand in board[0]:
-        paper = paper_of(Sight(board[2], hand), KINDS)
+    signs = signs_of(board)
+    for told in signs:
+        paper = paper_of(told, KINDS)
         if paper is not None:
             return STUCK, paper
-    return MADE, ends
+    return MADE, tuple([(told.hand, tuple(told.states)) for told in signs])
 
 
 def is_let(board):
     """Whether a board has no stuck paper."""
-    return made(board)[0] == MADE
+    return not any([told.has(kind) for told in signs_of(board) for kind in KINDS])
 
 
 def stuck_paper(board, hand, *, kinds=KINDS):
     """A stuck paper of one of the kinds with a hand, or None where there is none."""
-    return paper_of(sight_of(board, hand), kinds)
+    growth = growth_of(board, hand)
+    return paper_of(Signs(board[2], hand, growth), kinds)
 
 
 def stuck_kinds(board, hand):
     """The rising row of the kinds of all stuck papers with a hand."""
-    sight = sight_of(board, hand)
-    return tuple([kind for kind in KINDS if paper_of(sight, (kind,)) is not None])
+    growth = growth_of(board, hand)
+    signs = Signs(board[2], hand, growth)
+    return tuple([kind for kind in KINDS if signs.has(kind)])
 
 
-def sight_of(board, hand):
-    """The sight of a hand; refused as its growth."""
-    growth_of(board, hand)
-    return Sight(board[2], hand)
+def signs_of(board):
+    """The list of the signs of all hands; refuses what is no board, then too many states of an end."""
+    check_board(board)
+    return [Signs(board[2], hand, Growth(board[2], hand)) for hand in board[0]]
 
 
-def paper_of(sight, kinds):
-    """A paper of one of the kinds with a sight's hand, or None."""
+def paper_of(signs, kinds):
+    """A paper of one of the kinds with a hand, or None."""
     for kind in kinds:
-        seek = SEEKERS[kind]
-        rows = seek(sight)
-        if rows is not None:
-            return (kind, sight.hand) + rows
+        if signs.has(kind):
+            sight = Sight(signs.places, signs.hand)
+            if kind == "race":
+                return (kind, signs.hand) + race_rows(sight)
+            look = LOOKS[kind]
+            return (kind, signs.hand) + first_rows(sight, look, signs)
     return None
 
 
-def seek_ends(sight):
-    """Two rows behind one of which the hand has an event, behind the other perhaps none ever, or None."""
-    goes_on = [goes_on_at(sight, at) for at in range(len(sight.places))]
-    for pair in sight.came:
-        events = sight.says[pair[0]] + sight.hears[pair[0]]
-        if events and not goes_on[pair[1]]:
-            row, other = sight.rows_to(pair)
-            return row + (events[0][0],), other
+def first_rows(sight, look, signs):
+    """The rows to the first pair of places at which a look tells sayings by which these go on, and these."""
+    number = 0
+    told = None
+    while told is None:
+        pair = sight.pair_at(number)
+        told = look(sight, pair, signs)
+        number += 1
+    row, other = sight.rows_to(pair)
+    return row + told[0], other + told[1]
+
+
+def look_for_ends(sight, pair, signs):
+    """At the first of both places the hand has an event, at the other perhaps none ever."""
+    events = sight.says[pair[0]] + sight.hears[pair[0]]
+    if not events or signs.goes_on() >> pair[1] & 1:
+        return None
+    return (events[0][0],), ()
+
+
+def look_for_fault(sight, pair, _):
+    """At the first of both places the hand hears a fault, at the other another sayer."""
+    for saying, _ in sight.hears[pair[0]]:
+        others = [other for other, _ in sight.hears[pair[1]] if other[0] != saying[0]]
+        if saying[2] == FAULT and others:
+            return (saying,), (others[0],)
     return None
 
 
-def goes_on_at(sight, at):
-    """Whether a row without faults goes on from a place to a word that the hand says or hears."""
-    behind = places_from(sight.places, [at], None, False)
-    return any([has_word_of(sight.places[place], sight.hand) for place in behind])
+def look_for_mixed(sight, pair, _):
+    """At the first of both places the hand says something, at the other it hears something."""
+    says, hears = sight.says[pair[0]], sight.hears[pair[1]]
+    if not says or not hears:
+        return None
+    return (says[0][0],), (hears[0][0],)
 
 
-def seek_fault(sight):
-    """Two rows behind one of which the hand hears a fault, behind the other another sayer, or None."""
-    for pair in sight.came:
-        for saying, _ in sight.hears[pair[0]]:
-            others = [other for other, _ in sight.hears[pair[1]] if other[0] != saying[0]]
-            if saying[2] == FAULT and others:
-                row, other = sight.rows_to(pair)
-                return row + (saying,), other + (others[0],)
+def look_for_says(sight, pair, signs):
+    """At the first of both places the hand says what it can't be waited for at the other."""
+    for saying, _ in sight.says[pair[0]]:
+        if not signs.is_waited_for(saying, pair[1]):
+            return (saying,), ()
     return None
 
 
-def seek_mixed(sight):
-    """Two rows behind one of which the hand says something, behind the other hears something, or None."""
-    for pair in sight.came:
-        says, hears = sight.says[pair[0]], sight.hears[pair[1]]
-        if says and hears:
-            row, other = sight.rows_to(pair)
-            return row + (says[0][0],), other + (hears[0][0],)
-    return None
-
-
-def seek_says(sight):
-    """Two rows behind one of which the hand says what it can't be waited for behind the other, or None."""
-    may_say = [sight.may_say(at) for at in range(len(sight.places))]
-    for pair in sight.came:
-        for saying, _ in sight.says[pair[0]]:
-            if saying not in may_say[pair[1]]:
-                row, other = sight.rows_to(pair)
-                return row + (saying,), other
-    return None
-
-
-def seek_race(sight):
-    """Two rows, in the second of which the hand may hear first what it hears last there, or None."""
+def race_rows(sight):
+    """Two rows, in the second of which the hand may hear first what it hears last there."""
     for last, begins in races_of(sight).items():
-        told = way_to_race(sight, last, begins)
+        told = way_to_race(sight.places, sight.hand, last, begins)
         if told is not None:
             pair, heard = told[0]
             row, other = sight.rows_to(pair)
@@ -116,47 +112,4 @@ def seek_race(sight):
     return None
 
 
-def races_of(sight):
-    """The dict from each word that is heard to the words of other sayers that may be heard in its place.
-
-    These are dicts from the pairs (saying, place behind it) to a pair of places with both.
-    """
-    found = {}
-    for pair in sight.came:
-        for last, _ in sight.hears[pair[0]]:
-            for heard in sight.hears[pair[1]]:
-                if last[0] != heard[0][0] and FAULT not in (last[2], heard[0][2]):
-                    found.setdefault(last, {}).setdefault(heard, pair)
-    return found
-
-
-def way_to_race(sight, last, begins):
-    """How a row goes on to last, the hand held back from another sayer's word on, or None.
-
-    Told are (pair, that saying) and the sayings between both. Looks are a place, who is held back, who is mute.
-    """
-    came = {AHEAD: None}
-    looks = []
-    for (heard, then), pair in begins.items():
-        look = (then, (sight.hand,), ())
-        if look not in came:
-            came[look] = (AHEAD, (pair, heard))
-            looks.append(look)
-    done = 0
-    while done < len(looks):
-        look = looks[done]
-        for saying, then in sayings_at(sight.places[look[0]]):
-            if saying == last:
-                return trace(came, look)
-            # Its sayer says nothing else to the hand from there on.
-            holding = hold_on(look[1:], saying) if saying[:2] != last[:2] else None
-            if holding is not None and last[0] not in holding[0]:
-                come = (then,) + holding
-                if come not in came:
-                    came[come] = (look, saying)
-                    looks.append(come)
-        done += 1
-    return None
-
-
-SEEKERS = {"ends": seek_ends, "fault": seek_fault, "mixed": seek_mixed, "race": seek_race, "says": seek_says}
+LOOKS = {"ends": look_for_ends, "fault": look_for_fault, "mixed": look_for_mixed, "says": look_for_says}
