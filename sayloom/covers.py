@@ -123,7 +123,7 @@ class Weaving:
     def __init__(self, board, run):
         self.looking = Looking(board, run)
         self.look = self.looking.start
-        self.row = []
+        self.found = []
 
     def woven(self):
         """The row that covers."""
@@ -134,10 +134,10 @@ class Weaving:
             while not self.tells(looks[done]):
                 looks.extend(self.free_looks(came, looks[done]))
                 done += 1
-            self.row.extend(trace(came, looks[done]))
+            self.found.extend(trace(came, looks[done]))
             saying, self.look = self.looking.looks_from(looks[done])[0]
-            self.row.append(saying)
-        return tuple(self.row)
+            self.found.append(saying)
+        return tuple(self.found)
 
     def tells(self, look):
         """Whether the run tells the saying that comes: what its sayer said, or its fault."""

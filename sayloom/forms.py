@@ -56,7 +56,7 @@ class Form:
         self.at = 0
         self.hands = []
         self.weak = []
-        self.begin = None
+        self.opening = None
         self.sayings = []
         self.calls = []
         self.parts = {}
@@ -92,7 +92,7 @@ class Form:
         """Reads all words."""
         self.read_hands()
         self.take("begin")
-        self.begin = self.read_go(BEGINS_PART, (), self.hands, 0)
+        self.opening = self.read_go(BEGINS_PART, (), self.hands, 0)
         while self.at < len(self.words):
             if len(self.parts) == MOST_PARTS:
                 raise NoText(self.at)

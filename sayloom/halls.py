@@ -20,11 +20,16 @@ def are_ends(thing):
     return len(set(hands)) == len(hands)
 
 
+def is_room(thing):
+    """Whether thing is a room of so many words."""
+    return is_number(thing) and 1 <= thing <= MOST_ROOM
+
+
 def check_hall(ends, room, weak):
     """Refuses what no hall has."""
     if not are_ends(ends):
         raise NoEnds("no ends of a hall")
-    if room is not None and not (is_number(room) and 1 <= room <= MOST_ROOM):
+    if room is not None and not is_room(room):
         raise NoRoom("no room of a hall")
     if not are_weak(weak, [hand for hand, _ in ends]):
         raise NoHand(weak)
@@ -283,8 +288,11 @@ class Hall:
     def twin(self):
         """A hall of its own of the same ends, room, weak hands and log, that counts from 0."""
         other = Hall(self.ends, room=self.room, weak=self.weak)
-        for row in list(self._log):
-            other._stands(row)
+        other._at = dict(self._at)
+        other._fallen = dict(self._fallen)
+        other._roads = {pair: list(self._roads[pair]) for pair in self._roads}
+        other._log = list(self._log)
+        other._ahead = [copied(ahead) for ahead in self._ahead]
         other._marks = list(self._marks)
         return other
 
@@ -303,6 +311,13 @@ class Hall:
 
     def __repr__(self):
         return f"Hall({len(self.ends)} hands, {len(self._log)} deeds)"
+
+
+def copied(ahead):
+    """What is needed to take a row of a log back: the state ahead of it, or, of a fall, the roads to the hand."""
+    if not isinstance(ahead, dict):
+        return ahead
+    return {other: list(ahead[other]) for other in ahead}
 
 
 def written(row):

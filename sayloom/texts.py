@@ -82,7 +82,7 @@ class Laying:
     def __init__(self, text, most):
         self.form = form_of(text)
         self.weak = tuple(sorted(self.form.weak))
-        places, self.order = lay_out(self.key_of(self.form.begin, {}), self.place_at, most)
+        places, self.order = lay_out(self.key_of(self.form.opening, {}), self.place_at, most)
         self.board = (tuple(self.form.hands), self.weak, places)
         self.check_falls()
 

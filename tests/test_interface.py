@@ -3,7 +3,9 @@
 import inspect
 import unittest
 
-from sayloom import boards, covers, ends, errors, halls, keeps, made, making, rows, stuck, texts
+from sayloom import (
+    boards, covers, ends, errors, halls, keeps, made, making, net, over, rows, stands, stuck, texts, ways,
+)
 
 FUNCTIONS = {
     boards: {
@@ -68,6 +70,31 @@ FUNCTIONS = {
         "least_row": "(board, run, *, most=4000)",
         "run_of": "(board, paper)",
     },
+    ways: {
+        "waits": "(board)",
+        "shows_waits": "(board, thing)",
+        "way_on": "(board, hall, *, hand)",
+        "ways_on": "(board, hall)",
+        "settled": "(board, hall)",
+        "shows_way": "(hall, thing, *, hand)",
+        "shows_settled": "(board, hall, thing)",
+    },
+    stands: {
+        "begin_stand": "(ends)",
+        "stand_of": "(hall)",
+        "is_stand": "(ends, thing, *, room=1, weak=())",
+        "deeds_at": "(ends, stand, *, room=1, weak=())",
+        "stand_behind": "(ends, stand, deed, *, room=1, weak=())",
+        "awaited": "(ends, stand, *, hand, room=1, weak=())",
+        "walked": "(ends, *, room=1, weak=(), most=1000)",
+        "many_stands": "(ends, *, room=1, weak=(), most=1000)",
+        "shows_walked": "(ends, thing, *, room=1, weak=())",
+        "shows_run": "(ends, thing, *, room=1, weak=())",
+    },
+    over: {
+        "way_over": "(board, net, *, hand)",
+        "shows_way_over": "(net, thing, *, hand)",
+    },
 }
 HALL = {
     "__init__": "(self, ends, *, room=None, weak=())",
@@ -93,6 +120,26 @@ HALL = {
     "__str__": "(self)",
     "__repr__": "(self)",
 }
+NET = {
+    "__init__": "(self, ends, *, weak=())",
+    "do": "(self, deed)",
+    "all_of": "(self, deeds)",
+    "can_do": "(self)",
+    "copies": "(self)",
+    "under_way": "(self)",
+    "state_of": "(self, hand)",
+    "is_done": "(self, hand)",
+    "view_of": "(self, hand)",
+    "fallen": "(self)",
+    "marks": "(self)",
+    "log": "(self)",
+    "counts": "(self)",
+    "twin": "(self)",
+    "__eq__": "(self, other)",
+    "__len__": "(self)",
+    "__repr__": "(self)",
+}
+CLASSES = {(halls, "Hall"): HALL, (net, "Net"): NET}
 VALUES = {
     boards: {"FAULT": "!", "MOST_PLACES": 40},
     texts: {"MOST": 40},
@@ -100,6 +147,7 @@ VALUES = {
     made: {"MOST_STATES": 100},
     stuck: {"KINDS": ("ends", "fault", "mixed", "race", "says")},
     covers: {"MOST_LOOKS": 4000},
+    stands: {"ROOM": 1, "MOST_STANDS": 1000},
 }
 BEARERS = {"NoText": "(at)", "NoHand": "(hand)", "NoPlace": "(place)", "Empty": "(sayer, hearer)",
            "Full": "(sayer, hearer)"}
@@ -114,11 +162,13 @@ class TestInterface(unittest.TestCase):
                     self.assertEqual(str(inspect.signature(told)), arguments)
                     self.assertEqual(told.__module__, file.__name__)
 
-    def test_a_halls_methods_are_its_own(self):
-        self.assertEqual(halls.Hall.__module__, "sayloom.halls")
-        for name, arguments in HALL.items():
-            with self.subTest(name=name):
-                self.assertEqual(str(inspect.signature(vars(halls.Hall)[name])), arguments)
+    def test_the_methods_of_classes_are_their_own(self):
+        for (file, name), methods in CLASSES.items():
+            told = getattr(file, name)
+            self.assertEqual(told.__module__, file.__name__)
+            for method, arguments in methods.items():
+                with self.subTest(name=name, method=method):
+                    self.assertEqual(str(inspect.signature(vars(told)[method])), arguments)
 
     def test_values(self):
         for file, values in VALUES.items():
