@@ -29,8 +29,10 @@ class Moves:
         """Where a flat stand has the road from one end to another."""
         return self.many * (one + 1) + two
 
-    def table_of(self, mine, at):
+    def table_at(self, mine, at):
         """What can be done in a state: rows (deed, is it a say, road, word, state then, number of the other)."""
+        if at in self.tables[mine]:
+            return self.tables[mine][at]
         rows = []
         hand = self.hands[mine]
         for kind, other, word, then in self.states[mine][at]:
@@ -53,10 +55,7 @@ class Moves:
             at = flat[mine]
             if at == FALLEN:
                 continue
-            table = self.tables[mine].get(at)
-            if table is None:
-                table = self.table_of(mine, at)
-            for deed, says, road, word, then, its in table:
+            for deed, says, road, word, then, its in self.table_at(mine, at):
                 words = flat[road]
                 if says:
                     if len(words) == self.room:
