@@ -4,7 +4,8 @@ import inspect
 import unittest
 
 from sayloom import (
-    boards, covers, ends, errors, halls, keeps, made, making, net, over, rows, stands, stuck, texts, ways,
+    boards, covers, desk, editions, ends, errors, halls, house, keeps, made, making, net, over, rows, stands, stuck, texts,
+    watchers, ways,
 )
 
 FUNCTIONS = {
@@ -95,6 +96,16 @@ FUNCTIONS = {
         "way_over": "(board, net, *, hand)",
         "shows_way_over": "(net, thing, *, hand)",
     },
+    editions: {
+        "are_editions": "(thing)",
+        "mix_ends": "(editions, mix)",
+        "mix_weak": "(editions, mix)",
+        "meets": "(editions, mix, *, room=1, most=1000)",
+        "shows_meets": "(editions, mix, thing, *, room=1)",
+        "come_to": "(editions, *, room=1, most=1000)",
+        "order_of": "(editions, *, room=1, most=1000)",
+        "shows_order": "(editions, thing, *, room=1)",
+    },
 }
 HALL = {
     "__init__": "(self, ends, *, room=None, weak=())",
@@ -139,7 +150,64 @@ NET = {
     "__len__": "(self)",
     "__repr__": "(self)",
 }
-CLASSES = {(halls, "Hall"): HALL, (net, "Net"): NET}
+WATCHER = {
+    "__init__": "(self, board)",
+    "tell": "(self, hand, event)",
+    "told": "(self, hand)",
+    "next_of": "(self, hand)",
+    "wrongs": "(self)",
+    "waits": "(self)",
+    "log": "(self)",
+    "row": "(self)",
+    "is_right": "(self)",
+    "__eq__": "(self, other)",
+    "__len__": "(self)",
+    "__str__": "(self)",
+}
+HOUSE = {
+    "__init__": "(self, board, *, room=1)",
+    "publish": "(self, board)",
+    "change": "(self, hand)",
+    "begin": "(self)",
+    "do": "(self, deed)",
+    "end": "(self)",
+    "drop": "(self)",
+    "all_of": "(self, deeds)",
+    "back": "(self)",
+    "drive": "(self, choose, *, most=200)",
+    "editions": "(self)",
+    "mix": "(self)",
+    "is_on": "(self)",
+    "is_busy": "(self)",
+    "can_do": "(self)",
+    "can_change": "(self)",
+    "bar": "(self, hand)",
+    "way_on": "(self, hand)",
+    "log": "(self)",
+    "views": "(self)",
+    "runs": "(self)",
+    "book": "(self)",
+    "twin": "(self)",
+    "__eq__": "(self, other)",
+    "__len__": "(self)",
+    "__str__": "(self)",
+    "__repr__": "(self)",
+}
+DESK = {
+    "__init__": "(self, *, room=1)",
+    "say": "(self, line)",
+    "house": "(self)",
+    "counts": "(self)",
+    "__len__": "(self)",
+    "__repr__": "(self)",
+}
+CLASSES = {
+    (halls, "Hall"): HALL,
+    (net, "Net"): NET,
+    (watchers, "Watcher"): WATCHER,
+    (house, "House"): HOUSE,
+    (desk, "Desk"): DESK,
+}
 VALUES = {
     boards: {"FAULT": "!", "MOST_PLACES": 40},
     texts: {"MOST": 40},
@@ -148,6 +216,7 @@ VALUES = {
     stuck: {"KINDS": ("ends", "fault", "mixed", "race", "says")},
     covers: {"MOST_LOOKS": 4000},
     stands: {"ROOM": 1, "MOST_STANDS": 1000},
+    house: {"MOST_DEEDS": 200},
 }
 BEARERS = {"NoText": "(at)", "NoHand": "(hand)", "NoPlace": "(place)", "Empty": "(sayer, hearer)",
            "Full": "(sayer, hearer)"}
