@@ -67,9 +67,9 @@ class House:
         self._book.append(("in", "back"))
         try:
             self._check_free()
-            if not self._kept.marks:
+            if not self._kept.standing:
                 raise NoDeed("nothing stands")
-            self._kept.take_back(self._kept.marks.pop())
+            self._kept.take_back(self._kept.standing.pop())
         finally:
             self._book.append(("out", "back"))
 
@@ -84,7 +84,7 @@ class House:
             self._check_on()
             # Done by a copy: whatever the chooser raises, what was ahead of the drive is at hand then.
             self._kept = ahead.for_drive()
-            self._kept.marks.append(ahead.mark())
+            self._kept.standing.append(ahead.mark())
             told = self._driven(choose, most)
             return told
         finally:
@@ -113,7 +113,7 @@ class House:
         """Does a deed that can be taken back by itself."""
         mark = self._kept.mark()
         told = self._noted(deed)
-        self._kept.marks.append(mark)
+        self._kept.standing.append(mark)
         return told
 
     def _all_noted(self, deeds):
@@ -125,7 +125,7 @@ class House:
         except (LoomError, NoHand, Empty, Full):
             self._kept.take_back(mark)
             raise
-        self._kept.marks.append(mark)
+        self._kept.standing.append(mark)
         return tuple(told)
 
     def _noted(self, deed):
@@ -166,7 +166,7 @@ class House:
         if word == "do":
             return self._kept.hall().do(deed[1])
         if word == "end":
-            return self._ended()
+            return self._run_ended()
         self._kept.on = None
         return None
 
@@ -197,7 +197,7 @@ class House:
         self._kept.open_run()
         return len(self._kept.over)
 
-    def _ended(self):
+    def _run_ended(self):
         hall = self._kept.hall()
         if [hand for hand in self._hands() if goes_on(hall, hand)]:
             raise NoDeed("some hand goes on")
@@ -286,9 +286,13 @@ class House:
         return len(self._kept.over)
 
     def __str__(self):
+        return ", ".join(self._parts())
+
+    def _parts(self):
+        """The list of what the house as a text tells."""
         mix = ",".join([str(number) for number in self._kept.mix_now])
         is_on = "on" if self.is_on() else "off"
-        return f"{len(self._hands())} hands, {len(self._kept.boards)} editions, mix {mix}, {is_on}"
+        return [f"{len(self._hands())} hands", f"{len(self._kept.boards)} editions", f"mix {mix}", is_on]
 
     def __repr__(self):
         return f"House({len(self._hands())} hands, {len(self._kept.boards)} editions)"

@@ -8,7 +8,7 @@ from sayloom.stands import MOST_STANDS
 class Keeping:
     """Editions with their made ends, a mix, the halls of all runs, which of them is on, and the runs that are over.
 
-    A mark tells how much of all that there was at a time, so that what came behind can be taken back; marks has one
+    A mark tells how much of all that there was at a time, so that what came behind can be taken back; standing has one
     for each deed, row of deeds, and drive that stands.
     """
 
@@ -21,7 +21,7 @@ class Keeping:
         self.halls = []
         self.on = None
         self.over = []
-        self.marks = []
+        self.standing = []
 
     def hall(self):
         """The hall of the run that is on, or None."""
@@ -76,7 +76,7 @@ class Keeping:
         other.halls = halls
         other.on = self.on
         other.over = list(self.over)
-        other.marks = list(self.marks)
+        other.standing = list(self.standing)
         return other
 
     def twin(self):

@@ -11,23 +11,21 @@ NONE = "none"
 # Behind these stands a text of a talk, as it is.
 WITH_TEXT = ("talk", "look", "next")
 # What stands behind the words of all other lines.
-NAME = "name"
-NUMBER = "number"
 LINES = {
-    "change": (NAME,),
+    "change": ("name",),
     "begin": (),
-    "say": (NAME, NAME, NAME),
-    "hear": (NAME, NAME),
-    "fall": (NAME,),
+    "say": ("name", "name", "name"),
+    "hear": ("name", "name"),
+    "fall": ("name",),
     "end": (),
     "drop": (),
     "back": (),
     "can": (),
-    "way": (NAME,),
-    "view": (NAME,),
+    "way": ("name",),
+    "view": ("name",),
     "cover": (),
-    "bar": (NAME,),
-    "text": (NUMBER,),
+    "bar": ("name",),
+    "text": ("number",),
     "house": (),
 }
 # The words of the lines that may stand in an all.
@@ -63,9 +61,9 @@ def parsed_alone(line):
         refuse_line()
     told = [word]
     for kind, part in zip(LINES[word], words[1:]):
-        if kind == NAME and not is_name(part):
+        if kind == "name" and not is_name(part):
             refuse_line()
-        told.append(part if kind == NAME else number_of(part))
+        told.append(part if kind == "name" else number_of(part))
     return tuple(told)
 
 

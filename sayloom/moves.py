@@ -11,7 +11,7 @@ FALLEN = -1
 
 
 class Moves:
-    """The deeds of ends, with a room, or None, and weak hands, and what comes of them."""
+    """The deeds of ends, with a room and weak hands, and what comes of them."""
 
     def __init__(self, ends, room, weak):
         self.many = len(ends)
@@ -167,5 +167,4 @@ class Moves:
             if words[-1] != FAULT:
                 return False
             words = words[:-1]
-        fits = self.room is None or len(words) <= self.room
-        return fits and all([is_name(word) for word in words])
+        return len(words) <= self.room and all([is_name(word) for word in words])

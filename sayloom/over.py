@@ -2,7 +2,7 @@
 
 from sayloom.boards import FAULT
 from sayloom.errors import Full, LoomError, NoHand
-from sayloom.ways import Settling, check_made, check_named, goes_on
+from sayloom.ways import Settling, check_made, goes_on
 
 # What no way has: nobody falls for it, and the net neither loses nor doubles anything for it.
 NOT_OF_WAYS = ("fall", "lose", "double")
@@ -46,7 +46,7 @@ class Going:
         """Does what is left of a saying; many tells how many of each hand's events are done and not gone by."""
         sayer, hearer, word = saying
         is_said = word == FAULT or self.was_done(many, sayer)
-        is_heard = self.was_done(many, hearer) or hearer in self.fell
+        is_heard = self.was_done(many, hearer)
         if not is_said:
             # What its post said ahead of this was heard; so the answer comes.
             self.delivers(sayer)
@@ -64,7 +64,7 @@ class Going:
     def delivers(self, sayer):
         """Has the word under way of a hand come to its hearer, and the answer come back."""
         copy = self.net.under_way().get(sayer)
-        if copy is None or self.is_there:
+        if copy is None:
             return
         if copy not in self.net.copies():
             self.does(("again", sayer))
@@ -75,7 +75,6 @@ class Going:
 def way_over(board, net, *, hand):
     """A way of a hand over a net, or None of one that is done or has fallen."""
     check_made(board, net)
-    check_named(net, hand)
     if not goes_on(net, hand):
         return None
     going = Going(net, hand)
@@ -87,7 +86,6 @@ def way_over(board, net, *, hand):
 
 def shows_way_over(net, thing, *, hand):
     """Whether thing is a way of a hand over a net, or None of one that is done or has fallen."""
-    check_named(net, hand)
     if not goes_on(net, hand):
         return thing is None
     if not isinstance(thing, tuple):

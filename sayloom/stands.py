@@ -1,6 +1,6 @@
 """Stands of ends over roads: all walked, by which it is seen whether the ends are sound."""
 
-from sayloom.boards import are_weak, is_number_below
+from sayloom.boards import are_weak
 from sayloom.errors import NoDeed, NoEnds, NoHand, NoPlace, NoRoom
 from sayloom.halls import are_ends, is_room
 from sayloom.moves import FALLEN, Moves

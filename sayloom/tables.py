@@ -168,10 +168,11 @@ def is_run_to_fault(moves, thing):
 
 def is_left(moves, flat, sayer, hearer):
     """Whether all hands are still in a stand, and something is left on the road between two that live."""
-    if moves.left_in(flat) is None or sayer not in moves.hands or hearer not in moves.hands or sayer == hearer:
+    if moves.left_in(flat) is None or sayer not in moves.hands or hearer not in moves.hands:
         return False
     one, two = moves.hands.index(sayer), moves.hands.index(hearer)
-    return flat[one] != FALLEN and flat[two] != FALLEN and flat[moves.road(one, two)] != ()
+    # To a fallen hand no road has something, nor to the hand itself.
+    return flat[one] != FALLEN and flat[moves.road(one, two)] != ()
 
 
 def is_waiting(moves, flat, thing):
@@ -189,7 +190,7 @@ def is_waiting(moves, flat, thing):
     if flat not in among or not is_rising(stands):
         return False
     for told in among:
-        if moves.is_still(told, mine) or not isinstance(others, tuple) or moves.named_in(mine, told) != others:
+        if moves.is_still(told, mine) or moves.named_in(mine, told) != others:
             return False
         for _, who, come in moves.steps_from(told):
             if who == mine or come not in among:

@@ -126,7 +126,11 @@ class Watcher:
 
     def is_right(self):
         """Whether no report is wrong and none waits."""
-        return not self._wrong and len(self._log) == len(self)
+        return not self._wrong and not self._many_waiting()
+
+    def _many_waiting(self):
+        """How many right reports aren't laid."""
+        return len(self) - len(self._wrong) - len(self._log)
 
     def __eq__(self, other):
         if not isinstance(other, Watcher):
@@ -137,6 +141,4 @@ class Watcher:
         return len([event for hand in self._told for event in self._told[hand]])
 
     def __str__(self):
-        many = len(self)
-        wrong = len(self._wrong)
-        return f"{many} told, {many - wrong - len(self._log)} wait, {wrong} wrong"
+        return f"{len(self)} told, {self._many_waiting()} wait, {len(self._wrong)} wrong"

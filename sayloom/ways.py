@@ -103,7 +103,7 @@ class Settling:
         numbers = least_waits(places, hand)
         at = place_after(places, self.covering)
         sayings = []
-        while not sayings or not view_at(sayings[-1:], hand):
+        while not view_at(sayings[-1:], hand):
             sayer, branches = places[at]
             hearer, word, at = next_branch(sayer, branches, sayer in self.fell, numbers, hand)
             sayings.append((sayer, hearer, word))
@@ -135,16 +135,13 @@ def deeds_along(sayings, fell, hand):
 def check_made(board, hall):
     """Refuses what is no board, or none whose made ends a hall, or a net, has."""
     kind, ends = made(board)
-    if kind != MADE:
-        raise NoEnds("the board is stuck")
-    if hall.ends != ends or hall.weak != board[1]:
-        raise NoEnds("not the board's made ends")
+    if kind != MADE or hall.ends != ends or hall.weak != board[1]:
+        raise NoEnds("not the made ends of a let board")
 
 
 def way_on(board, hall, *, hand):
     """A way of a hand, or None of one that is done or has fallen."""
     check_made(board, hall)
-    check_named(hall, hand)
     return Settling(board, hall.log()).way_of(hand) if goes_on(hall, hand) else None
 
 
@@ -162,20 +159,13 @@ def settled(board, hall):
     return tuple(settling.deeds), settling.covering
 
 
-def check_named(hall, hand):
-    """Refuses what has no end in a hall, or a net."""
-    if hand not in [name for name, _ in hall.ends]:
-        raise NoHand(hand)
-
-
 def goes_on(hall, hand):
-    """Whether a hand of a hall, or of a net, lives and isn't done."""
+    """Whether a hand of a hall, or of a net, lives and isn't done; refuses what has no end there."""
     return not hall.is_done(hand) and hand not in hall.fallen()
 
 
 def shows_way(hall, thing, *, hand):
     """Whether thing is a way of a hand, or None of one that is done or has fallen."""
-    check_named(hall, hand)
     if not goes_on(hall, hand):
         return thing is None
     if not isinstance(thing, tuple) or not does_all(hall.twin(), thing):

@@ -479,6 +479,18 @@ class TestWays(unittest.TestCase):
             ring, many = found, many + 1
         return None
 
+    def test_where_others_talk_apart(self):
+        # What ann and bob say hangs together with flo's word, what cy and dora say doesn't.
+        parts = []
+        for at, (sayer, hearer) in enumerate([("ann", "bob"), ("cy", "dora"), ("bob", "ann"), ("dora", "cy")] * 8):
+            parts.append(f"part p{'abcdefgh'[at // 4]}{'wxyz'[at & 3]}(): {sayer} {{ {hearer} hi @ | {hearer} no @ }}")
+        names = [part.split()[1][:-1] for part in parts] + ["last()"]
+        parts = [part.replace("@", names[at + 1]) for at, part in enumerate(parts)] + ["part last(): bob { flo go . }"]
+        house = House(read_talk(f"hands(ann bob cy dora flo) begin {names[0]} " + " ".join(parts)), room=9)
+        house.begin()
+        self.assertEqual(len(house.way_on("flo")), 33)
+        self.assertEqual(len(house.way_on("cy")), 1)
+
     def test_in_a_mix(self):
         house = house_of(ASKING_TWO, ("change", "bob"), ("begin",))
         self.assertEqual(house.way_on(hand="bob"), (HI, ("hear", "bob", "ann")))

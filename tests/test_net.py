@@ -181,6 +181,17 @@ class TestDeeds(unittest.TestCase):
         self.assertEqual(net.do(("mark", "ann", "bob")), ("hear", "ann", "bob", "!"))
         self.assertTrue(net.is_done("ann"))
 
+    def test_behind_the_fault_no_word_is_heard(self):
+        ends = (("ann", ((("say", "bob", "hi", 0),),)), ("bob", ((("hear", "ann", "!", 0), ("hear", "ann", "hi", 0)),)))
+        deeds = (HI, ("double", WORD), ("carry", WORD), ("carry", ANSWER), HI, ("fall", "ann"), ("mark", "bob", "ann"))
+        net = net_behind(*deeds, ends=ends, weak=("ann",))
+        self.assertIsNone(net.do(("carry", ("word", "ann", "bob", 2, "hi"))))
+        self.assertEqual((net.copies(), len(net.view_of("bob"))), ({WORD: 1}, 2))
+        # What was heard ahead of it is answered even so.
+        self.assertIsNone(net.do(("carry", WORD)))
+        self.assertEqual(net.copies(), {ANSWER: 1})
+        self.assertIsNone(net.do(("mark", "bob", "ann")))
+
     def test_nothing_comes_of_what_is_carried_to_the_fallen(self):
         net = net_behind(HI, ("double", WORD), ("carry", WORD), ("fall", "ann"))
         self.assertEqual(net.under_way(), {})
@@ -382,6 +393,14 @@ class TestTwins(unittest.TestCase):
             self.assertNotEqual(net, net_behind(*self.DEEDS, deed), deed)
         self.assertNotEqual(Net(TALK), Net(TALK, weak=WEAK))
         self.assertNotEqual(Net(made(PAIR)[1]), Net(made(GONE)[1]))
+        pairs = made(PAIR)[1]
+        self.assertNotEqual(Net(pairs), Net((pairs[0], ("bob", pairs[1][1] + ((),)))))
+        heard = (HI, ("carry", WORD))
+        one, two = net_behind(*heard, ("lose", ANSWER)), net_behind(*heard, ("carry", ANSWER))
+        self.assertEqual((one.copies(), one.log(), one.marks()), (two.copies(), two.log(), two.marks()))
+        self.assertNotEqual(one, two)
+        on = ("say", "bob", "cy", "on")
+        self.assertNotEqual(net_behind(HI, on), net_behind(on, HI))
         for thing in anything() + [TALK]:
             self.assertFalse(net == thing)
             self.assertTrue(net != thing)

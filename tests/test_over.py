@@ -9,6 +9,7 @@ from sayloom.halls import Hall
 from sayloom.making import made
 from sayloom.net import Net
 from sayloom.over import shows_way_over, way_over
+from sayloom.texts import read_talk
 from tests.kinds import ALONE, APART, GONE, ROUND, SIX, TOO_WIDE
 from tests.samples import PAIR, Unchanged, anything, chain, ring, same, with_one_otherwise
 from tests.slow_ways import is_slow_way_over
@@ -69,6 +70,27 @@ class TestWaysOver(unittest.TestCase):
                     break
                 net.all_of(dice.choice([way for way in ways if way is not None]))
             self.assertTrue(all(net.is_done(hand) or hand in net.fallen() for hand in board[0]))
+
+    def test_a_mark_that_was_taken_ahead_of_its_time(self):
+        board = read_talk("hands(*ann bob cy) begin cy { bob x ann { bob hi bob { cy ok . } | bob ! bob { cy gone . } } }")
+        net = Net(made(board)[1], weak=("ann",))
+        net.all_of((("fall", "ann"), ("mark", "bob", "ann"), ("mark", "cy", "ann")))
+        self.assertEqual(net.view_of("bob"), ())
+        self.assertEqual(way_over(board, net, hand="bob")[-1][0], "carry")
+        net.all_of(way_over(board, net, hand="bob"))
+        self.assertEqual(way_over(board, net, hand="bob")[-1], ("mark", "bob", "ann"))
+        way = way_over(board, net, hand="cy")
+        self.assertTrue(shows_way_over(net, way, hand="cy"))
+        self.assertIn(("mark", "bob", "ann"), way)
+
+    def test_a_fault_that_nobody_heard_of_yet(self):
+        board = read_talk("hands(*ann bob cy) begin cy { bob x ann { bob hi bob { cy ok . } | bob ! bob { cy ok . } } }")
+        self.assertEqual(made(board)[0], "made")
+        net = Net(made(board)[1], weak=("ann",))
+        net.all_of((("fall", "ann"), ("mark", "bob", "ann"), ("say", "cy", "bob", "x")))
+        for hand in ("bob", "cy"):
+            way = way_over(board, net, hand=hand)
+            self.assertTrue(shows_way_over(net, way, hand=hand))
 
     def test_long_ones(self):
         dice = random.Random(5)

@@ -162,6 +162,7 @@ class TestStands(unittest.TestCase):
         self.assertEqual(awaited(TALK, ((1, 1, 1), ()), hand="ann"), ())
         self.assertEqual(awaited(TALK, ((1, 1, 1), ()), hand="cy"), ("ann",))
         self.assertEqual(awaited(TALK, ((0, -1, 0), ()), hand="ann", room=2, weak=WEAK), ())
+        self.assertEqual(awaited(TALK, ((0, 0, -1), ()), hand="cy", weak=WEAK), ())
         for hand in anything():
             with self.assertRaises(NoHand) as caught:
                 awaited(TALK, begin_stand(TALK), hand=hand)
@@ -379,6 +380,22 @@ class TestShows(unittest.TestCase):
         self.assertFalse(shows_run(ends, ((), ("left", "ann", "bob")), weak=("ann", "bob")))
         for hand in ("ann", "bob"):
             self.assertFalse(shows_run(ends, (said + (("fall", hand),), ("left", "ann", "bob")), weak=("ann", "bob")))
+        # The fault of one that fell is left, but it lives no more.
+        fell = said + (("fall", "cy"),)
+        self.assertTrue(shows_run(ends, (fell, ("left", "ann", "bob")), weak=("cy",)))
+        self.assertFalse(shows_run(ends, (fell, ("left", "cy", "bob")), weak=("cy",)))
+        self.assertFalse(shows_run(ends, (fell, ("left", "ann", "ann")), weak=("cy",)))
+        # Some hand goes on.
+        self.assertFalse(shows_run(BUT_FOR_FALLS, ((("say", "ann", "bob", "go"),), ("left", "ann", "bob"))))
+
+    def test_just_these_two_words(self):
+        run = walked(STUCK_TWO)[1]
+        self.assertTrue(shows_walked(STUCK_TWO, ("faulty", run)))
+        table = walked(made(PAIR)[1])[1]
+        for word in ("sound", "Faulty", "", None, True, [], ("faulty",), "waits"):
+            self.assertFalse(shows_walked(STUCK_TWO, (word, run)))
+        for word in ("faulty", "Sound", "", None, True, [], ("sound",), "made"):
+            self.assertFalse(shows_walked(made(PAIR)[1], (word, table)))
 
 
 def table_changes(table):

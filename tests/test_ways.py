@@ -7,6 +7,7 @@ from sayloom.errors import NoBoard, NoEnds, NoHand, TooWide
 from sayloom.halls import Hall, hall_behind
 from sayloom.made import sets_of
 from sayloom.making import is_let, made
+from sayloom.texts import read_talk
 from sayloom.ways import settled, shows_settled, shows_waits, shows_way, waits, way_on, ways_on
 from tests.kinds import ALONE, APART, GONE, LET, LIKE_DEEDS, LIKE_HANDS, ROUND, SIX, TOO_WIDE, renamed
 from tests.samples import (
@@ -130,6 +131,16 @@ class TestWays(unittest.TestCase):
                             self.assertEqual(len(twin.view_of(hand)), len(hall.view_of(hand)) + 1)
                     self.assertEqual(ways_on(board, hall), ways)
                     self.assertEqual((told_of(hall), hall.counts()), (ahead, counts))
+
+    def test_by_words_to_a_fallen_one(self):
+        board = read_talk("hands(ann bob *cy) begin bob { cy w bob { ann x . } }")
+        self.assertEqual(made(board)[0], "made")
+        hall = hall_of(board, deeds=(("fall", "cy"),))
+        self.assertEqual(way_on(board, hall, hand="ann"), (
+            ("say", "bob", "cy", "w"), ("say", "bob", "ann", "x"), ("hear", "ann", "bob"),
+        ))
+        hall = hall_of(board)
+        self.assertIn(("hear", "ann", "bob"), way_on(board, hall, hand="ann"))
 
     def test_long_logs(self):
         dice = random.Random(4)
@@ -287,6 +298,13 @@ class TestSettled(unittest.TestCase):
         row = (("ann", "bob", "hi"), ("bob", "ann", "ok"))
         self.assertIs(shows_settled(ROUND, hall, ((), row)), True)
         self.assertIs(shows_settled(ROUND, hall, ((), row + (("ann", "bob", "stop"),))), False)
+        # To a fallen one a living one can't have fallen, nor a fallen one said what it didn't.
+        fell = hall_behind(made(ROUND)[1], (("fall", "bob"),), weak=ROUND[1])
+        self.assertIs(shows_settled(ROUND, fell, ((), ())), True)
+        self.assertIs(shows_settled(ROUND, fell, ((), (("ann", "bob", "!"),))), False)
+        fell.fall("ann")
+        self.assertIs(shows_settled(ROUND, fell, ((), (("ann", "bob", "!"),))), True)
+        self.assertIs(shows_settled(ROUND, fell, ((), (("ann", "bob", "hi"),))), False)
 
 
 class TestNumbers(unittest.TestCase):
