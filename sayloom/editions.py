@@ -144,7 +144,7 @@ def is_order(mixing, hands, tables):
     if not all([hand in mixing.hands for hand in hands]):
         return False
     mixes = mixes_along(mixing, hands)
-    if mixes[-1] != mixing.last() or len(mixes) != len(hands) + 1 or len(tables) != len(mixes):
+    if mixes[-1] != mixing.last() or len(tables) != len(mixes):
         return False
     return all([is_table(mixing.moves_by(mix), table) for mix, table in zip(mixes, tables)])
 

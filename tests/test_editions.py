@@ -11,6 +11,7 @@ from sayloom.errors import NoBoard, NoEnds, NoPlace, NoRoom, TooWide
 from sayloom.made import made_end
 from sayloom.making import is_let, made
 from sayloom.stands import many_stands, shows_walked, walked
+from sayloom.texts import read_talk
 from tests.kinds import ALONE, GONE, TOO_WIDE
 from tests.samples import PAIR, Unchanged, anything, made_up_boards, same, with_one_listed, with_one_otherwise
 from tests.slow_looks import is_slow_board
@@ -276,6 +277,13 @@ class TestOrders(unittest.TestCase):
             # All noughts among them.
             first = many_stands(mix_ends(COMING, (0, 0, 0)))
             self.assertRaises(TooWide, call, COMING, most=first - 1)
+        # Of the first one alone more come than may.
+        one = read_talk("hands(ann bob) begin ann { bob hi bob { ann ok . } }")
+        other = read_talk("hands(ann bob) begin ann { bob no bob { ann ok . } }")
+        self.assertEqual([many_stands(mix_ends((one, other), mix)) for mix in ((0, 0), (0, 1), (1, 0))], [5, 2, 2])
+        for call in (come_to, order_of):
+            call((one, other), most=5)
+            self.assertRaises(TooWide, call, (one, other), most=4)
         # A mix that isn't come to, nor one step from such, may be as wide as it likes.
         reached = {mix for at in come_to(MORE) for mix in (at, one_more(at, ("ann", "bob"), "ann"), one_more(at, ("ann", "bob"), "bob"))}
         wide = max(many_stands(mix_ends(MORE, mix)) for mix in reached)
@@ -332,6 +340,9 @@ class TestShowsOrder(unittest.TestCase):
                 things += list(with_one_otherwise((mixes, bars[:2]), other))
                 things += [(mixes, (bar,) + bars[1:]) for bar in with_one_otherwise(bars[0], other)]
                 things += [(changed, bars) for changed in with_one_otherwise(mixes, other)]
+            turned = [bar for mix in mixes[::-1] for bar in bars if bar[0] == mix]
+            things += [(mixes[::-1], tuple(turned)), (mixes + mixes[-1:], bars + tuple(turned[:2])),
+                       (mixes, tuple(bar + (None,) for bar in bars)), (mixes, bars + (None,))]
             seen = set()
             for thing in things:
                 told = is_slow_order(editions, 1, (kind, thing))
@@ -339,6 +350,10 @@ class TestShowsOrder(unittest.TestCase):
                 self.assertIs(shows_order(editions, (kind, thing)), told, thing)
                 self.assertIs(shows_order(editions, ("order", thing)), False)
             self.assertTrue(shows_order(editions, (kind, (mixes, bars))))
+            for word in ("Barred", "order", "", None, True, [], ("barred",)):
+                self.assertIs(shows_order(editions, (word, (mixes, bars))), False)
+            for thing in ((kind, (mixes, bars), ()), (kind, (mixes, bars, ())), (kind, mixes, bars), (kind,)):
+                self.assertIs(shows_order(editions, thing), False)
 
     def test_more_mixes_may_be_told(self):
         # One that isn't come to, with its own bars.

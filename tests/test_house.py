@@ -480,13 +480,13 @@ class TestWays(unittest.TestCase):
         return None
 
     def test_where_others_talk_apart(self):
-        # What ann and bob say hangs together with flo's word, what cy and dora say doesn't.
-        parts = []
-        for at, (sayer, hearer) in enumerate([("ann", "bob"), ("cy", "dora"), ("bob", "ann"), ("dora", "cy")] * 8):
-            parts.append(f"part p{'abcdefgh'[at // 4]}{'wxyz'[at & 3]}(): {sayer} {{ {hearer} hi @ | {hearer} no @ }}")
-        names = [part.split()[1][:-1] for part in parts] + ["last()"]
-        parts = [part.replace("@", names[at + 1]) for at, part in enumerate(parts)] + ["part last(): bob { flo go . }"]
-        house = House(read_talk(f"hands(ann bob cy dora flo) begin {names[0]} " + " ".join(parts)), room=9)
+        # What ann and bob say hangs together with flo's word; cy may say more words to others than can be gone along.
+        pairs = [("ann", "bob"), ("cy", "dora"), ("bob", "ann"), ("cy", "ed")] * 8
+        names = [f"p{'abcdefgh'[at // 4]}{'wxyz'[at & 3]}()" for at in range(32)] + ["last()"]
+        parts = [f"part {name}: {sayer} {{ {hearer} hi {then} | {hearer} no {then} }}"
+                 for name, then, (sayer, hearer) in zip(names, names[1:], pairs)]
+        parts.append("part last(): bob { flo go . }")
+        house = House(read_talk(f"hands(ann bob cy dora ed flo) begin {names[0]} " + " ".join(parts)), room=9)
         house.begin()
         self.assertEqual(len(house.way_on("flo")), 33)
         self.assertEqual(len(house.way_on("cy")), 1)
@@ -539,6 +539,7 @@ class TestTwins(unittest.TestCase):
             self.assertTrue(house != thing)
         over = (("begin",), ("do", HI), ("do", ("hear", "bob", "ann")), ("end",))
         self.assertNotEqual(house_of((PAIR,)), house_of((PAIR,), *over))
+        self.assertNotEqual(House(PAIR), House(PAIR, room=2))
         self.assertEqual(house_of((PAIR,), *over), house_of((PAIR,), *over))
 
     def test_what_was_told_may_be_changed(self):

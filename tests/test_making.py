@@ -8,6 +8,7 @@ from sayloom.halls import Hall
 from sayloom.made import made_end
 from sayloom.making import is_let, made, stuck_kinds, stuck_paper
 from sayloom.stuck import KINDS, shows_stuck
+from sayloom.texts import read_talk
 from tests.kinds import (
     ALL_KINDS, ALONE, FALLS_OR_NEVER, GONE, JUST_NARROW, LET, LIKE_DEEDS, LIKE_HANDS, ROUND, STUCK, TOO_WIDE, renamed,
     two_rings,
@@ -72,6 +73,20 @@ class TestMade(unittest.TestCase):
         }
         for board, kinds in told.items():
             self.assertTrue(same([stuck_kinds(board, hand) for hand in board[0]], kinds))
+
+    def test_what_a_hand_does_itself_is_no_waiting(self):
+        apart = "hands(ann bob cy dora) begin cy { dora one p() | dora two q() } "
+        for text, kinds in (
+            ("part p(): ann { bob e q() } part q(): ann { bob x p() }", [("says",), (), (), ()]),
+            ("part p(): ann { bob e . } part q(): bob { ann w p() }", [("mixed", "says"), ("mixed", "says"), (), ()]),
+        ):
+            board = read_talk(apart + text)
+            self.assertEqual([stuck_kinds(board, hand) for hand in board[0]], kinds)
+
+    def test_two_words_of_one_sayer_are_no_race(self):
+        board = read_talk("hands(k x f g h) begin k { x one p() | x two q() | x three r() } part p(): f { h m . } "
+                          "part q(): f { h y p() } part r(): g { h z . }")
+        self.assertEqual(stuck_kinds(board, "h"), ())
 
     def test_all_rows_of_kinds(self):
         for hand in ALL_KINDS[0]:
