@@ -78,9 +78,14 @@ def _are_places(thing, hands, weak):
     for place in thing:
         if place is not None and not _is_saying(place, hands, weak, len(thing), known):
             return False
-    if len(places_from(thing, [0])) != len(thing):
-        return False
-    return all([_stays_fallen(thing, hand) for hand in weak])
+    return _are_come_to(thing) and all([_stays_fallen(thing, hand) for hand in weak])
+
+
+def _are_come_to(places):
+    """Whether all places are come to from the begin."""
+    # Where each other one is come to from one of a lesser number, as is mostly so, there is nothing to be sought.
+    ahead = {then for at, place in enumerate(places) if place is not None for _, _, then in place[1] if then > at}
+    return len(ahead) == len(places) - 1 or len(places_from(places, [0])) == len(places)
 
 
 def _is_saying(thing, hands, weak, many, known):

@@ -167,7 +167,7 @@ class House:
             return self._kept.hall().do(deed[1])
         if word == "end":
             return self._run_ended()
-        self._kept.on = None
+        self._kept.drop_run()
         return None
 
     def _published(self, board):
@@ -183,12 +183,13 @@ class House:
         self._check_hand(hand)
         if self._kept.on is not None:
             raise NoDeed("a run is on")
-        mix = self._kept.mixing.next_by(self._kept.mix_now, hand)
+        kept = self._kept
+        mix = kept.mixing.next_by(kept.mix_now, hand)
         if mix is None:
             raise NoDeed("no next edition")
-        if self._kept.mixing.run_by(mix) is not None:
+        if kept.mixing.run_by(mix) is not None:
             raise NoEnds("the mix doesn't meet")
-        self._kept.mix_now = mix
+        kept.mix_now = mix
         return mix[self._hands().index(hand)]
 
     def _begun(self):

@@ -42,7 +42,8 @@ def kept_pairs(mine, its):
 def breaks_in(mine, its):
     """All by which a state breaks the other one: events, at last None where that says and it doesn't."""
     events, others = events_in(mine), events_in(its)
-    has, other_has = set(events), set(others)
+    has = set(events)
+    other_has = set(others)
     found = [event for event in events if event not in other_has]
     found.extend([event for event in others if event[0] == "hear" and event not in has])
     if says_some(others) and not says_some(events):

@@ -50,6 +50,10 @@ class Keeping:
         self.on = None
         return log
 
+    def drop_run(self):
+        """Has no run on any more."""
+        self.on = None
+
     def mark(self):
         """How much there is."""
         many = 0 if self.on is None else len(self.hall())

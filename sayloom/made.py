@@ -97,27 +97,27 @@ class Growth:
     """The states of a made end as they first come: their sets, their steps, and where each came from."""
 
     def __init__(self, places, hand):
-        self.paths = Paths(places, hand)
-        self.sets = [self.paths.behind[0]]
-        self.came = {0: None}
-        self.states = []
-        numbers = {self.sets[0]: 0}
-        while len(self.states) < len(self.sets):
-            at = len(self.states)
+        paths = Paths(places, hand)
+        sets = [paths.behind[0]]
+        numbers = {sets[0]: 0}
+        came = {0: None}
+        states = []
+        while len(states) < len(sets):
             steps = []
-            for event, bits in self.paths.events_from(self.sets[at]):
-                if bits not in numbers:
-                    numbers[bits] = len(numbers)
-                    self.add(bits, at, event)
-                steps.append(event + (numbers[bits],))
-            self.states.append(tuple(steps))
-
-    def add(self, bits, at, event):
-        """Adds the set to which an event leads from a state."""
-        if len(self.sets) == MOST_STATES:
-            raise TooWide(f"a made end of more than {MOST_STATES} states")
-        self.came[len(self.sets)] = (at, event)
-        self.sets.append(bits)
+            for event, bits in paths.events_from(sets[len(states)]):
+                number = numbers.get(bits)
+                if number is None:
+                    number = len(sets)
+                    if number == MOST_STATES:
+                        raise TooWide(f"a made end of more than {MOST_STATES} states")
+                    numbers[bits] = number
+                    came[number] = (len(states), event)
+                    sets.append(bits)
+                steps.append(event + (number,))
+            states.append(tuple(steps))
+        self.sets = sets
+        self.came = came
+        self.states = states
 
 
 def growth_of(board, hand):

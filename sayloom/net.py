@@ -140,8 +140,9 @@ class Net:
         post.heard[sayer] = number
         self._add_copy(("answer", hand, sayer, number))
         # The word with which the sayer fell is heard after all: nothing of what it did is left out any more.
-        if self._posts[sayer].under == copy:
-            self._posts[sayer].cut = None
+        other = self._posts[sayer]
+        if other.under == copy:
+            other.cut = None
         return "hear", hand, sayer, word
 
     def _answer_comes(self, copy):

@@ -107,7 +107,7 @@ class Signs:
             for last, _ in heard:
                 for told in heard:
                     if last[0] != told[0][0] and FAULT not in (last[2], told[0][2]):
-                        found.setdefault(last, {})[told] = None
+                        found.setdefault(last, {}).setdefault(told, None)
         return found
 
 

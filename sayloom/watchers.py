@@ -40,7 +40,7 @@ class Watcher:
             self._told[hand].append(event)
             return ()
         self._told[hand].append(event)
-        return self._lay_all()
+        return self._all_laid()
 
     def _check_hand(self, hand):
         if hand not in list(self._told):
@@ -58,12 +58,12 @@ class Watcher:
         self._at[hand] = then
         return True
 
-    def _lay_all(self):
+    def _all_laid(self):
         """Lays all that can be laid; tells the row of the rows."""
         start = len(self._log)
         hand = self._first_to_lay()
         while hand is not None:
-            self._lay(hand, self._told[hand][self._many_laid[hand]])
+            self._put(hand, self._told[hand][self._many_laid[hand]])
             hand = self._first_to_lay()
         return tuple(self._log[start:])
 
@@ -79,7 +79,7 @@ class Watcher:
     def _many_right(self, hand):
         return self._wrong.get(hand, len(self._told[hand]))
 
-    def _lay(self, hand, event):
+    def _put(self, hand, event):
         self._many_laid[hand] += 1
         if event == FELL:
             # The fault comes behind all words of the fallen one, as on the roads of a hall.
