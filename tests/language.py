@@ -137,6 +137,50 @@ def _of_node(node, known):
         yield from _of_handler(node)
     if isinstance(node, (ast.For, ast.comprehension)) and isinstance(node.iter, (ast.Set, ast.SetComp)):
         yield "L24"
+    if isinstance(node, ast.Attribute) and isinstance(node.ctx, ast.Store) and not isinstance(node.value, ast.Name):
+        yield "L18"
+    if isinstance(node, ast.FunctionDef):
+        yield from _of_sets(node)
+    if isinstance(node, ast.Try):
+        yield from _of_finally(node)
+
+
+def _is_set(node):
+    if isinstance(node, ast.Call):
+        return isinstance(node.func, ast.Name) and node.func.id in ("set", "frozenset")
+    return isinstance(node, (ast.Set, ast.SetComp))
+
+
+def _of_sets(function):
+    """Sets that are stored otherwise than once, by a statement of its own, or used otherwise than L24 lets."""
+    stored = set()
+    for node in ast.walk(function):
+        if isinstance(node, (ast.Tuple, ast.List)) and [part for part in node.elts if _is_set(part)]:
+            yield "L24"
+        if isinstance(node, ast.Return) and node.value is not None and _is_set(node.value):
+            yield "L24"
+        if isinstance(node, ast.Assign) and _is_set(node.value):
+            names = [target.id for target in node.targets if isinstance(target, ast.Name)]
+            if len(names) != 1 or len(node.targets) != 1 or names[0] in stored:
+                yield "L24"
+            stored.update(names)
+    for node in ast.walk(function):
+        if isinstance(node, (ast.For, ast.comprehension)) and isinstance(node.iter, ast.Name) and node.iter.id in stored:
+            yield "L24"
+        if isinstance(node, ast.Return) and isinstance(node.value, ast.Name) and node.value.id in stored:
+            yield "L24"
+
+
+def _of_finally(node):
+    """Statements of a finally that are none of those which L6 lets."""
+    for one in [part for statement in node.finalbody for part in ast.walk(statement)]:
+        if isinstance(one, (ast.Return, ast.Break, ast.Continue, ast.Raise, ast.For, ast.While, ast.Delete, ast.Subscript)):
+            yield "L6"
+        if isinstance(one, ast.Call):
+            if not isinstance(one.func, ast.Attribute) or one.func.attr not in ("append", "clear"):
+                yield "L6"
+        if isinstance(one, ast.If) and not isinstance(one.test, (ast.Compare, ast.BoolOp, ast.UnaryOp)):
+            yield "L6"
 
 
 def _of_import(node):

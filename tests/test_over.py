@@ -10,6 +10,7 @@ from sayloom.making import made
 from sayloom.net import Net
 from sayloom.over import shows_way_over, way_over
 from sayloom.texts import read_talk
+from sayloom.ways import way_on
 from tests.kinds import ALONE, APART, GONE, ROUND, SIX, TOO_WIDE
 from tests.samples import PAIR, Unchanged, anything, chain, ring, same, with_one_otherwise
 from tests.slow_ways import is_slow_way_over
@@ -91,6 +92,19 @@ class TestWaysOver(unittest.TestCase):
         for hand in ("bob", "cy"):
             way = way_over(board, net, hand=hand)
             self.assertTrue(shows_way_over(net, way, hand=hand))
+
+    def test_by_the_fault_of_one_that_a_fallen_one_would_hear(self):
+        board = read_talk("hands(*ann *bob cy dora) begin dora { cy x ann { bob hi bob { cy ok . | cy ! . } "
+                          "| bob ! bob { cy gone . | cy ! . } } }")
+        self.assertEqual(made(board)[0], "made")
+        net = Net(made(board)[1], weak=board[1])
+        net.all_of((("fall", "ann"), ("fall", "bob"), ("mark", "cy", "ann"), ("mark", "cy", "bob")))
+        net.all_of(way_over(board, net, hand="cy"))
+        self.assertEqual(net.view_of("cy"), (("hear", "dora", "x"),))
+        self.assertEqual(way_over(board, net, hand="cy")[-1], ("mark", "cy", "bob"))
+        hall = Hall(made(board)[1], room=1, weak=board[1])
+        hall.all_of((("fall", "ann"), ("fall", "bob"), ("say", "dora", "cy", "x"), ("hear", "cy", "dora")))
+        self.assertEqual(way_on(board, hall, hand="cy"), (("hear", "cy", "bob"),))
 
     def test_long_ones(self):
         dice = random.Random(5)
